@@ -1,0 +1,1 @@
+"""Meettasks: tasks that meet, in all orders."""
