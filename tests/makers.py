@@ -198,3 +198,59 @@ def row_or_none(run, owner, entry):
         return tuple(run.row(owner, entry))
     except NoEntry:
         return None
+
+
+def servers(seed):
+    """A program of tasks that mostly go on for ever: servers, their callers, users of things."""
+    luck = random.Random(seed)
+
+    def little():
+        return luck.choice([[], [], [["note", "x"]], [["set", "f", True]], [["set", "f", False]],
+                            [["use", "u", "put"]], [["wait", "t", "have"]]])
+
+    def server():
+        arms = [[luck.choice([None, None, "f"]), entry, little()] for entry in "eg"[:luck.randint(1, 2)]]
+        other = luck.choice([None, None, None, ["else", [["note", "y"]]], ["end"]])
+        return [["again", little() + [luck.choice([["offer", arms, other], ["offer", arms, other],
+                                                   ["take", "e", little()]])]]]
+
+    def caller():
+        some = [luck.choice([["call", luck.choice("sv"), luck.choice("eg"), []], ["use", "t", "give"],
+                             ["wait", "t", "have"], ["wait", "u", luck.choice(["get", "all"])], ["use", "u", "put"],
+                             ["call", "s", luck.choice("eg"), [["leave"]]], ["if", "f", [["leave"]], []],
+                             ["pick", [[["leave"]], [["note", "z"]]]]])
+                for _ in range(luck.randint(1, 3))]
+        return [["again", some]] if luck.random() < 0.6 else [part for part in some if part[0] != "again"]
+
+    tasks = {"s": server(), "v": luck.choice([server, caller])(), "x": caller(), "y": caller()}
+    if luck.random() < 0.5:
+        del tasks["y"]
+    if luck.random() < 0.3:
+        tasks["z"] = [["abort", luck.choice("svx")]]
+    return mended([["nest", tasks, []]], {"t": LOCK, "u": CELL})
+
+
+def markets(seed):
+    """A program in which who waits for ever hangs on what is fair: servers with arms, callers that go on and on."""
+    luck = random.Random(seed)
+
+    def server():
+        arms = [[luck.choice([None, None, None, "f"]), entry, luck.choice([[], [], [["note", "x"]]])]
+                for entry in ("e", "g", "h")[:luck.randint(2, 3)]]
+        row = [["offer", arms, luck.choice([None, None, ["else", []]])]]
+        if luck.random() < 0.3:
+            row = row + [["pick", [[["set", "f", True]], [["set", "f", False]]]]]
+        if luck.random() < 0.3:
+            row = row + [["offer", [arms[0][:2] + [[]]], luck.choice([None, ["else", []]])]]
+        return [["again", row]]
+
+    def caller(often):
+        calls = [["call", luck.choice("ssv"), luck.choice("eg"), []] for _ in range(luck.randint(1, 2))]
+        return [["again", calls]] if luck.random() < often else calls
+
+    tasks = {"s": server(), "x": caller(0.3), "y": caller(0.9)}
+    if luck.random() < 0.4:
+        tasks["z"] = caller(0.9)
+    if luck.random() < 0.4:
+        tasks["v"] = server()
+    return mended([["nest", tasks, []]], {"t": LOCK, "u": CELL})

@@ -1,0 +1,75 @@
+"""The interface: names, files, parameters; parameters by place and by name (point 3)."""
+
+import importlib
+import inspect
+import unittest
+
+INTERFACE = {
+    "things": "Thing(values, start, deeds, entries) with worths, start, deeds, entries",
+    "programs": "Program(body, things=None) with tasks, master(task), body(task), things, deed(task, path)",
+    "runs": "Run(program, steps=()) with let, more(steps), steps, program, place(task), how(task), flags(task), "
+            "held(task), row(owner, entry), value(thing), events",
+    "standing": "first_orders(program); stand_of(program, order); steps_at(program, number); "
+                "first_at(program, spots); order_without(program, one, other)",
+    "touching": "written(program, order); asked(program, order); are_one(program, one, other); "
+                "exchanges(program, one, other); least_one(program, order); pair_against(program, one, other)",
+    "wholes": "how_many(program); one_of_each(program); unlike_ends(program)",
+    "unfolding": "unfolded(program); is_configuration(program, thing); stand_by(program, events); "
+                 "events_for(program, number)",
+    "stretches": "crossing(program, stretch)",
+    "waits": "stuck(run); first_stuck(program, task); first_standstill(program)",
+    "knots": "greatest_knot(run); is_knot(run, thing)",
+    "lassos": "waits_for_ever(program, task, kind); is_wait(program, task, kind, thing)",
+    "helping": "helpers(program, task, kind); are_helpers(program, task, kind, thing)",
+    "passing": "most_passed(program, task); passing_run(program, task, many); are_bounds(program, task, thing)",
+    "endings": "bars(run, task); ending(run, task)",
+    "unending": "never_ends(program, kind); is_unending(program, kind, thing); end_helpers(program, kind); "
+                "are_end_helpers(program, kind, thing); left_over(program)",
+    "strikes": "StruckRun(program, strikable, steps=()) with let, more(steps), steps, program, place(task), "
+               "how(task), flags(task), held(task), row(owner, entry), value(thing), events; "
+               "struck_values(program, strikable, thing); value_bars(program, strikable, thing, values)",
+    "harming": "harms(program, strikable, task, kind); harmed(program, strikable, task, kind, lot); "
+               "is_harm(program, strikable, task, kind, lot, thing)",
+    "moreends": "with_ends(program, offers); fewest_ends(program, kind)",
+}
+
+
+def told_parameters(thing):
+    found = []
+    for parameter in inspect.signature(thing).parameters.values():
+        if parameter.name != "self":
+            default = "" if parameter.default is inspect.Parameter.empty else "=" + repr(parameter.default)
+            found.append(parameter.name + default)
+    return "(" + ", ".join(found) + ")" if found else ""
+
+
+class InterfaceTest(unittest.TestCase):
+
+    def test_all_is_defined_where_it_is_listed(self):
+        for name, listed in INTERFACE.items():
+            module = importlib.import_module("meettasks." + name)
+            for item in listed.split("; "):
+                head, _, methods = item.partition(" with ")
+                thing = getattr(module, head.split("(")[0])
+                self.assertEqual(thing.__module__, "meettasks." + name)
+                self.assertEqual(head, thing.__name__ + told_parameters(thing))
+                if methods:
+                    self.check_class(thing, methods)
+
+    def check_class(self, thing, methods):
+        self.assertIn("__eq__", vars(thing))
+        depth, word, words = 0, "", []
+        for sign in methods + ",":
+            depth += (sign == "(") - (sign == ")")
+            if sign == "," and depth == 0:
+                words.append(word.strip())
+                word = ""
+            else:
+                word += sign
+        for method in words:
+            own = vars(thing)[method.split("(")[0]]
+            self.assertEqual(method, own.__name__ + told_parameters(own))
+
+
+if __name__ == "__main__":
+    unittest.main()
