@@ -63,16 +63,24 @@ def add_begun(found, begun):
                 add_begun(found, Begun(task, tasks[task], sees, begun, scene.path))
 
 
+def doubles_of(begun, met, things):
+    """The paths of its nests that begin a word that was met before; what they begin is met from now on."""
+    found = {}
+    for scene in begun.scenes:
+        if scene.is_nest():
+            if any([task in met or task in things for task in scene.what[1]]):
+                found[scene.path] = True
+            met.update(scene.what[1])
+    return found
+
+
 def begun_tasks(body, things):
-    """All tasks in the order of the text; each knows which of its nests begin a word that was met before."""
+    """All tasks in the order of the text."""
     found = []
     add_begun(found, Begun("main", body, {}, None, ()))
-    met = set()
+    met = {"main": True}
     for begun in found:
-        if begun.by is not None and (begun.task in met or begun.task in things):
-            master = begun.by
-            master.doubles[begun.path] = True
-        met.add(begun.task)
+        begun.doubles = doubles_of(begun, met, things)
     return found
 
 

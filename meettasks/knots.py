@@ -1,10 +1,9 @@
 """Knots: tasks that wait for one another by what their texts can still do."""
 
 from meettasks.basics import is_list
-from meettasks.graphs import graph_from
-from meettasks.fields import is_waiting
+from meettasks.plans import plan_of
 from meettasks.rests import rest_of
-from meettasks.steps import arms_now, is_ready_to_end
+from meettasks.steps import arms_now, is_ready_to_end, steps_of
 
 
 class Needs:
@@ -78,9 +77,10 @@ class Looking:
 
 def needs_at(run):
     """The needs of all tasks that wait at a run's stand, by their numbers."""
-    graph, at = graph_from(run.course)
-    looking = Looking(graph.plan, graph.stands[at])
-    return {task: looking.needs(task) for task in range(len(graph.plan.names)) if is_waiting(graph, at, task)}
+    plan = plan_of(run.course.owner)
+    stand = run.course.stand
+    looking = Looking(plan, stand)
+    return {task: looking.needs(task) for task in looking.rests if not steps_of(plan, stand, task)}
 
 
 def greatest_knot(run):

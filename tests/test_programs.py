@@ -225,9 +225,10 @@ class BadProgramsTest(unittest.TestCase):
         self.assertEqual(wrong(nest({"a": []}) + nest({"a": []})), ("main", (1,)))
         self.assertEqual(wrong(nest({"a": nest({"a": []})})), ("a", (0,)))
         self.assertEqual(wrong(nest({"b": nest({"a": []}), "a": []})), ("b", (0,)))
-        # In the order of tasks the nest of a begins c ahead of the second nest of main.
-        self.assertEqual(wrong(nest({"a": nest({"c": []})}) + nest({"c": []})), ("main", (1,)))
-        self.assertEqual(wrong(nest({"a": nest({"b": []}), "b": []})), ("main", (0,)))
+        # All deeds of main come ahead of those of the tasks of its nests.
+        self.assertEqual(wrong(nest({"a": nest({"c": []})}) + nest({"c": []})), ("a", (0,)))
+        self.assertEqual(wrong(nest({"a": nest({"b": []}), "b": []})), ("a", (0,)))
+        self.assertEqual(wrong(nest({"b": nest({"c": []}), "a": nest({"c": []})})), ("b", (0,)))
 
     def test_ways_round_without_a_step(self):
         put = ("set", "f", True)
