@@ -55,10 +55,10 @@ def is_within(lot, other):
     return all([thing in other for thing in lot])
 
 
-def least_lots(lots):
-    """Those of lots, fewest things first, that have no other one of them within them."""
+def least_lots(things, works):
+    """All least lots of things that a test lets, in the order of choices by places."""
     found = []
-    for lot in lots:
-        if not any([is_within(less, lot) for less in found]):
+    for lot in all_lots(things):
+        if not any([is_within(less, lot) for less in found]) and works(lot):
             found.append(lot)
     return found

@@ -92,7 +92,7 @@ def pieces(members, goes):
     found = []
     for at in order:
         if at not in seen:
-            found.append(sorted(reached(at, ahead, seen)))
+            found.append(sorted(reached([at], ahead, seen)))
     found.reverse()
     return found
 
@@ -114,16 +114,14 @@ def finishing(members, targets):
     return order
 
 
-def reached(start, targets, seen):
-    """All that can be come to from a start but what was seen; seen is added to."""
-    seen[start] = True
-    found = [start]
-    coming = [start]
+def reached(starts, targets, seen):
+    """All that can be come to from some starts but what was seen; seen is added to."""
+    found = []
+    coming = list(starts)
     while coming:
         at = coming.pop()
-        for target in targets[at]:
-            if target not in seen:
-                seen[target] = True
-                found.append(target)
-                coming.append(target)
+        if at not in seen:
+            seen[at] = True
+            found.append(at)
+            coming.extend(targets[at])
     return found

@@ -1,6 +1,6 @@
 """Whose strikes can make a task wait for ever."""
 
-from meettasks.basics import all_lots, first_bad_word, is_list, is_within
+from meettasks.basics import first_bad_word, is_list, least_lots
 from meettasks.courses import checked_strikable
 from meettasks.errors import BadTasks
 from meettasks.fields import checked_kind, waiting_field
@@ -20,12 +20,9 @@ def checked_graph(program, strikable, task, kind):
 def harms(program, strikable, task, kind):
     graph = checked_graph(program, strikable, task, kind)
     number = graph.plan.number[task]
-    found = []
-    for lot in all_lots([one for one in graph.strikable if one != number]):
-        if not any([is_within(less, lot) for less in found]):
-            if lasso_in(waiting_field(graph, number, lot), kind) is not None:
-                found.append(lot)
-    return named_lots(graph.plan, found)
+    others = [one for one in graph.strikable if one != number]
+    lots = least_lots(others, lambda lot: lasso_in(waiting_field(graph, number, lot), kind) is not None)
+    return named_lots(graph.plan, lots)
 
 
 def field_of_lot(program, strikable, task, kind, lot):

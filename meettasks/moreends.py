@@ -1,6 +1,6 @@
 """Ends put to offers, and the fewest with which main ends."""
 
-from meettasks.basics import all_lots, is_list, is_pair, is_path, is_within
+from meettasks.basics import is_list, is_pair, is_path, least_lots
 from meettasks.bodies import deeds_along
 from meettasks.errors import BadOffers
 from meettasks.fields import checked_kind
@@ -68,9 +68,4 @@ def with_ends(program, offers):
 
 def fewest_ends(program, kind):
     checked_kind(kind)
-    found = []
-    for lot in all_lots(bare_offers(program)):
-        if not any([is_within(less, lot) for less in found]):
-            if never_ends(with_ends(program, lot), kind) is None:
-                found.append(lot)
-    return found
+    return least_lots(bare_offers(program), lambda lot: never_ends(with_ends(program, lot), kind) is None)

@@ -1,28 +1,20 @@
 """Who is stuck, and standstills."""
 
-from meettasks.fields import does_move, is_waiting
-from meettasks.graphs import graph_of, graph_from
+from meettasks.fields import does_move, is_waiting, reached
+from meettasks.graphs import graph_from, graph_of
 from meettasks.programs import known_task
 
 
-def stands_from(graph, at):
-    """All stands to which a stand leads, itself included."""
-    found = {at: True}
-    coming = [at]
-    while coming:
-        there = coming.pop()
-        for edge in graph.edges[there]:
-            if edge.target not in found:
-                found[edge.target] = True
-                coming.append(edge.target)
-    return list(found)
+def moves_anywhere(graph, at, number):
+    """Whether some step at a stand moves a task."""
+    return any([does_move(graph, at, edge, number) for edge in graph.edges[at]])
 
 
 def is_stuck(graph, at, number):
     if not is_waiting(graph, at, number):
         return False
-    return not any([does_move(graph, there, edge, number)
-                    for there in stands_from(graph, at) for edge in graph.edges[there]])
+    targets = [[edge.target for edge in edges] for edges in graph.edges]
+    return not any([moves_anywhere(graph, there, number) for there in reached([at], targets, {})])
 
 
 def stuck(run):
@@ -35,19 +27,12 @@ def first_stuck(program, task):
     known_task(program, task)
     graph = graph_of(program)
     number = graph.plan.number[task]
-    moving = [at for at in range(len(graph.stands))
-              if any([does_move(graph, at, edge, number) for edge in graph.edges[at]])]
-    ahead = [[] for _ in graph.stands]
+    sources = [[] for _ in graph.stands]
     for at, edges in enumerate(graph.edges):
         for edge in edges:
-            ahead[edge.target].append(at)
-    free = {at: True for at in moving}
-    while moving:
-        there = moving.pop()
-        for at in ahead[there]:
-            if at not in free:
-                free[at] = True
-                moving.append(at)
+            sources[edge.target].append(at)
+    free = {}
+    reached([at for at in range(len(graph.stands)) if moves_anywhere(graph, at, number)], sources, free)
     for at in range(len(graph.stands)):
         if at not in free and is_waiting(graph, at, number):
             return graph.first_order(at)

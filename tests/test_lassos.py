@@ -154,6 +154,17 @@ class ForEverTest(unittest.TestCase):
         self.assertTrue(are_helpers(program, "x", "weak", {key: ([1, "y"],)}))
         self.assertFalse(is_wait(program, "x", "any", ([BEGIN, ("x", "pick", True), ("x", "call")], [])))
 
+    def test_true_is_no_number_of_an_arm(self):
+        arms = [(None, "b", []), (None, "a", [])]
+        program = Program(nest({"s": [("again", [("offer", arms, None)])], "x": [("call", "s", "a", [])],
+                                "y": [("again", [("call", "s", "b", [])])]}))
+        arm = ("s", (0, 0, 0), 1)
+        keys = list(helpers(program, "x", "strong"))
+        self.assertTrue(are_helpers(program, "x", "strong", {key: [(0, arm)] for key in keys}))
+        for other in (("s", (0, 0, 0), True), ("s", (False, 0, 0), 1), ("s", (0, 0, 0), 0), ("s", (0, 0, 0), 2),
+                      ("s", (0, 0, 0)), ("s", 0, 1), ("s", (0, 0, 0), None), (None, (0, 0, 0), 1), "x", None):
+            self.assertFalse(are_helpers(program, "x", "strong", {key: [(0, other)] for key in keys}))
+
     def test_rows_for_arms_that_are_shut_at_times(self):
         arms = [(None, "a", []), (None, "b", [])]
         tasks = {"s": [("again", [("offer", arms, None), ("note", "n")])], "x": [("call", "s", "a", [])],

@@ -35,6 +35,14 @@ class CrossingTest(unittest.TestCase):
         self.assertEqual(crossing(program, ("a", (0,), 3)), [
             BEGIN, ("a", "use"), ("a", "note"), ("b", "use"), ("c", "call"), ("b", "take"), ("c", "use"), ("a", "use")])
 
+    def test_what_is_asked_counts(self):
+        other = ("offer", [(None, "e", [])], ("else", []))
+        program = Program(nest({"a": [other, ("take", "e", [])], "b": [("call", "a", "e", [])]}))
+        self.assertEqual(crossing(program, ("a", (0,), 2)), [BEGIN, ("a", "else"), ("b", "call"), ("a", "take")])
+        program = program_of({"a": [T, ("call", "b", "e", [])], "b": [T, other, ("take", "e", [])]})
+        self.assertEqual(crossing(program, ("a", (0,), 2)), [
+            BEGIN, ("a", "use"), ("b", "use"), ("b", "else"), ("a", "call")])
+
     def test_passes_are_apart(self):
         # The use of the first pass is crossed, but the note that follows is of the second pass.
         program = program_of({"a": [("again", [("note", "x"), T])], "b": [T, T]})
