@@ -1,9 +1,9 @@
 """Stands that can come, and first orders."""
 
-from meettasks.basics import is_pair, is_path
-from meettasks.bodies import SILENT
+from meettasks.basics import is_pair
+from meettasks.bodies import SILENT, deed_at
 from meettasks.courses import place_in
-from meettasks.errors import BadSpots, NoDeed, NoPath
+from meettasks.errors import BadSpots, NoDeed
 from meettasks.graphs import checked_edges, checked_number, graph_of, stand_behind
 from meettasks.ways import ARRIVED, first_way
 
@@ -24,13 +24,8 @@ def steps_at(program, number):
 
 def is_step_path(program, task, path):
     """Whether a path leads to a deed of a task that is a step."""
-    if not is_path(path):
-        return False
-    try:
-        deed = program.deed(task, path)
-    except NoPath:
-        return False
-    return deed[0] not in SILENT
+    deed = deed_at(program.body(task), path)
+    return deed is not None and deed[0] not in SILENT
 
 
 def is_task(program, thing):
