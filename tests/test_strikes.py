@@ -127,6 +127,18 @@ class ValuesTest(unittest.TestCase):
         self.assertEqual(value_bars(program, ["s", "b"], "u", []), [("b", "s")])
         self.assertEqual(value_bars(program, [], "u", ["two"]), [()])
 
+    def test_a_strike_adds_none_by_itself(self):
+        deeds = [("use", "u", "put"), ("wait", "u", "get"), ("wait", "u", "all"), ("wait", "t", "have"),
+                 ("use", "t", "give"), ("note", "x")]
+        for seed in range(12):
+            tasks = {name: [deeds[(seed * at + turn) % 6] for turn in range(seed % 3 + 1)]
+                     for at, name in enumerate("abc")}
+            program = Program(nest(tasks), {"t": LOCK, "u": CELL})
+            for thing in "tu":
+                self.assertEqual([value for value, _ in struck_values(program, ["a", "c"], thing)],
+                                 [value for value, _ in struck_values(program, [], thing)])
+                self.assertEqual(value_bars(program, ["a", "c"], thing, program.things()[thing].worths()), [("a", "c")])
+
     def test_several_greatest_lots(self):
         tasks = {"z": [("call", "s", "e", [("call", "v", "e", [("use", "u", "put")])])],
                  "s": [("again", [("take", "e", [])])], "v": [("again", [("take", "e", [])])]}
