@@ -8,7 +8,8 @@ from tests.makers import LOCK
 
 def any_objects():
     program = Program([("note", "x")])
-    return [([], "note"), ["main", []], ({}, "begin", 0), 0, 1, -1, 10 ** 30, True, False, None, "", "a", "main", "weak", "end", "longwordx", "A", [], (), {}, [[]],
+    return [([], "note"), ["main", []], ({}, "begin", 0), 0, 1, -1, 10 ** 30, True, False, None, "", "a",
+            "main", "weak", "end", "longwordx", "A", [], (), {}, [[]],
             [()], [None], [{}], [0], [True], (0,), ((0,),), [["main"]], [("main", "note")], ("main", (0,)),
             ["main", [0]], ["main", [True]], ("main", ()), ("main", "note"), ("a", (0,), 2), {"a": 1}, {1: 2},
             {(): ()}, {"main": {}}, {"main": "absent"}, {None: [(0, None)]}, [[], []], ([], []), ([()], []),

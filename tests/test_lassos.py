@@ -79,7 +79,8 @@ class ForEverTest(unittest.TestCase):
 
     def test_kinds(self):
         # y goes on for ever: x waits in any order in which s never goes on, in no weak one.
-        program = Program(nest({"x": [("call", "s", "e", [])], "s": [("take", "e", [])], "y": [("again", [("note", "n")])]}))
+        program = Program(nest({"x": [("call", "s", "e", [])], "s": [("take", "e", [])],
+                                "y": [("again", [("note", "n")])]}))
         told = ([BEGIN, ("x", "call")], [["y", "note"]])
         self.assertTrue(is_wait(program, "x", "any", told))
         self.assertFalse(is_wait(program, "x", "weak", told))

@@ -93,7 +93,8 @@ class EndsTest(unittest.TestCase):
                 seen.add(tuple(len(lot) for lot in least[:1]))
                 if "abort" not in repr([program.body(task) for task in program.tasks()]):
                     # An end more never bars.
-                    self.assertEqual(works, [lot for lot in lots_of(offers) if any(set(less) <= set(lot) for less in least)])
+                    more = [lot for lot in lots_of(offers) if any(set(less) <= set(lot) for less in least)]
+                    self.assertEqual(works, more)
         self.assertGreaterEqual(seen, {(), (1,)})
 
 

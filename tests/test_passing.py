@@ -21,8 +21,8 @@ class Rows:
         self.task = task
         self.program = program
         self.members = [at for at in range(len(world.runs)) if self.is_in(at)]
-        self.goes = {at: [(step, target, self.passes(at, step)) for step, target in world.goes[at] if self.is_in(target)]
-                     for at in self.members}
+        self.goes = {at: [(step, target, self.passes(at, step))
+                          for step, target in world.goes[at] if self.is_in(target)] for at in self.members}
 
     def is_in(self, at):
         return self.world.runs[at].how(self.task) in ("calling", "waiting")
@@ -80,7 +80,8 @@ class PassedTest(unittest.TestCase):
         self.assertIsNone(passing_run(program, "s", 0))
 
     def test_two_entries(self):
-        program = Program(nest({"x": [("call", "s", "a", [])], "y": [("call", "s", "b", [])], "z": [("call", "s", "b", [])],
+        program = Program(nest({"x": [("call", "s", "a", [])], "y": [("call", "s", "b", [])],
+                                "z": [("call", "s", "b", [])],
                                 "s": [("take", "b", []), ("take", "b", []), ("take", "a", [])]}))
         self.assertEqual([most_passed(program, task) for task in "xyz"], [2, 1, 1])
 
@@ -159,7 +160,7 @@ class PassedTest(unittest.TestCase):
             for key in told:
                 if told[key]:
                     self.assertFalse(are_bounds(program, task, dict(told) | {key: told[key] - 1}))
-                self.assertEqual(stand_of(program, key), [at for at in rows.members if tuple(world.first(at)) == key][0])
+                self.assertEqual(tuple(world.first(stand_of(program, key))), key)
         return most
 
 

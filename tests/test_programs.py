@@ -153,7 +153,8 @@ class BadProgramsTest(unittest.TestCase):
                 ("offer", [(None, "e", [])], ("other", [])), ("offer", [(None, "e", [])], ()), ("offer", {}, None),
                 ("offer", [(None, "e", [])], [[]]), ("use", "t"), ("use", "t", "give", "x"), ("wait", "t", None),
                 ("nest", {}, []), ("nest", {"A": []}, []), ("nest", {"a": "b"}, []), ("nest", {"a": []}),
-                ("nest", [("a", [])], []), ("nest", {"a": [], 3: []}, []), ("abort",), ("abort", 3), ((), ()), ("", "x")]:
+                ("nest", [("a", [])], []), ("nest", {"a": [], 3: []}, []), ("abort",), ("abort", 3),
+                ((), ()), ("", "x")]:
             self.assertEqual(wrong([good, deed, ("note", 7)], {"t": LOCK}), ("main", (1,)), deed)
 
     def test_a_deed_is_one_whatever_is_in_its_bodies(self):

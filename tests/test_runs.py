@@ -143,7 +143,8 @@ class StepsTest(unittest.TestCase):
         self.assertEqual(run.events(), [("meets", "b", "s", "e"), ("apart", "b", "s", "e"), ("ended", "b")])
 
     def test_call_of_one_that_has_ended_is_broken(self):
-        run = begun({"a": [("call", "s", "e", [("note", "x")]), ("note", "y")], "s": [("pick", [[], [("take", "e", [])]])]})
+        run = begun({"a": [("call", "s", "e", [("note", "x")]), ("note", "y")],
+                     "s": [("pick", [[], [("take", "e", [])]])]})
         run = run.more([("s", "pick", 0)])
         self.assertEqual(new_events(run, ("a", "call")), [("broken", "a", "s", "e")])
         run = run.more([("a", "call")])
@@ -241,7 +242,8 @@ class AbortsTest(unittest.TestCase):
         # x is in c's row; it leaves it, as what x began does, ahead of all that is broken.
         tasks = {"x": nest({"p": [("call", "x", "k", [])], "q": [("take", "h", [("note", "x")])]},
                            [("take", "k", [("call", "c", "e", [])])]),
-                 "c": [("take", "e", [])], "z": [("abort", "x"), ("note", "y")], "y": [("call", "x", "m", [("note", "z")])]}
+                 "c": [("take", "e", [])], "z": [("abort", "x"), ("note", "y")],
+                 "y": [("call", "x", "m", [("note", "z")])]}
         tasks["x"] = tasks["x"] + [("take", "m", [])]
         run = begun(tasks, (), None, [("x", "begin"), ("p", "call"), ("x", "take"), ("y", "call"), ("x", "call")])
         self.assertEqual([run.row("c", "e"), run.held("x"), run.how("p")], [["x"], ["p"], "met"])
@@ -307,15 +309,16 @@ class EndsTest(unittest.TestCase):
 
     def test_who_is_not_ready_bars(self):
         offer = self.end_offer()
-        for body in ([("note", "x")], [self.end_offer("g", None)], [("take", "g", [])], nest({"c": []}) + [("note", "x")]):
+        for body in ([("note", "x")], [self.end_offer("g", None)], [("take", "g", [])],
+                     nest({"c": []}) + [("note", "x")]):
             run = begun({"a": [offer], "b": body})
             self.assertNotIn(("main", "ends"), run.let())
 
     def test_closing_a_nest_with_which_the_body_ends(self):
         offer = [self.end_offer()]
         inner = nest({"c": offer})
-        for body in (inner, [("if", "f", [], inner)], [("pick", [inner, []])], [("if", "f", [], [("if", "f", [], inner)])],
-                     [("offer", [(None, "k", [])], ("else", inner))]):
+        for body in (inner, [("if", "f", [], inner)], [("pick", [inner, []])],
+                     [("if", "f", [], [("if", "f", [], inner)])], [("offer", [(None, "k", [])], ("else", inner))]):
             run = begun({"b": body})
             while ("b", "begin") not in run.let():
                 run = run.more(run.let()[:1])
@@ -415,8 +418,7 @@ class RunTest(unittest.TestCase):
         self.assertEqual(one, Run(program, [BEGIN, ("b", "note"), ("a", "note")]))
         self.assertNotEqual(one, Run(program, [BEGIN, ("b", "note")]))
         self.assertNotEqual(Run(Program([("note", "x")])), Run(Program([("note", "y")])))
-        waits = Program(nest({"x": [("wait", "t", "have")], "y": [("wait", "t", "have")], "z": [("wait", "t", "have")]}),
-                        {"t": LOCK})
+        waits = Program(nest({name: [("wait", "t", "have")] for name in "xyz"}), {"t": LOCK})
         steps = [BEGIN, ("x", "wait")]
         self.assertNotEqual(Run(waits, steps + [("y", "wait"), ("z", "wait")]),
                             Run(waits, steps + [("z", "wait"), ("y", "wait")]))

@@ -82,7 +82,8 @@ class StandsTest(unittest.TestCase):
         self.assertEqual(steps_at(program, many - 1), [])
 
     def test_bad_spots(self):
-        program = Program([("set", "f", True), ("if", "f", [("note", "x")], [])] + nest({"a": [("again", [("note", "y")])]}))
+        program = Program([("set", "f", True), ("if", "f", [("note", "x")], [])]
+                          + nest({"a": [("again", [("note", "y")])]}))
         for spots in any_objects():
             if isinstance(spots, dict):
                 if spots not in ({}, {"main": "absent"}):

@@ -31,7 +31,8 @@ class CrossingTest(unittest.TestCase):
         self.assertIsNone(crossing(program_of({"a": [T, U], "c": [T, T]}), ("a", (0,), 2)))
 
     def test_by_way_of_several_tasks(self):
-        program = program_of({"a": [T, ("note", "x"), U], "b": [T, ("take", "e", [])], "c": [("call", "b", "e", []), U]})
+        program = program_of({"a": [T, ("note", "x"), U], "b": [T, ("take", "e", [])],
+                              "c": [("call", "b", "e", []), U]})
         self.assertEqual(crossing(program, ("a", (0,), 3)), [
             BEGIN, ("a", "use"), ("a", "note"), ("b", "use"), ("c", "call"), ("b", "take"), ("c", "use"), ("a", "use")])
 
@@ -70,13 +71,14 @@ class CrossingTest(unittest.TestCase):
             BEGIN, ("a", "call"), ("s", "take"), ("s", "note"), ("a", "call")])
 
     def test_bad_stretches(self):
-        body = [("note", "x"), ("note", "y"), ("if", "f", [("again", [("note", "x")])], []), ("note", "z"), ("note", "x"),
-                ("again", [("pick", [[("leave",)], []]), ("note", "x"), ("note", "y")])]
+        body = [("note", "x"), ("note", "y"), ("if", "f", [("again", [("note", "x")])], []), ("note", "z"),
+                ("note", "x"), ("again", [("pick", [[("leave",)], []]), ("note", "x"), ("note", "y")])]
         program = Program(nest({"a": body}, [("note", "x")]))
         for thing in any_objects() + [
                 ("a", (0,), 1), ("a", (0,), 3), ("a", (1,), 2), ("a", (4,), 2), ("a", (4,), 3), ("a", (0,), True),
                 ("a", (5, 0, 0), 2), ("a", (5, 0, 2), 2), ("b", (0,), 2), ("main", (0,), 2), ("a", (0,), 10 ** 30),
-                ("a", (0,), 2, 0), ("a", (-1,), 2), ("a", 0, 2), ("a", (True,), 2), ("a", (0,), None), ("a", (0, 0), 2)]:
+                ("a", (0,), 2, 0), ("a", (-1,), 2), ("a", 0, 2), ("a", (True,), 2), ("a", (0,), None),
+                ("a", (0, 0), 2)]:
             if thing == ("a", (0,), 2):
                 continue
             error = raised(crossing, program, thing)
@@ -101,7 +103,8 @@ class CrossingTest(unittest.TestCase):
         self.assertGreater(free, 50)
 
     def stretches(self, program):
-        places = [(at,) for at in range(5)] + [(at, one, two) for at in range(3) for one in range(2) for two in range(2)]
+        places = [(at,) for at in range(5)]
+        places += [(at, one, two) for at in range(3) for one in range(2) for two in range(2)]
         return [(task, path, many) for task in program.tasks() for path in places for many in (2, 3)
                 if not isinstance(raised(crossing, program, (task, path, many)), BadStretch)]
 
@@ -113,7 +116,8 @@ class CrossingTest(unittest.TestCase):
             self.assertEqual(found, want)
         if found is None:
             for order in orders[-12:]:
-                self.assertTrue(any(self.is_side_by_side(world, one, stretch) for one in distances_from(program, order)))
+                same = distances_from(program, order)
+                self.assertTrue(any(self.is_side_by_side(world, one, stretch) for one in same))
         elif want is not None:
             self.assertFalse(any(self.is_side_by_side(world, one, stretch) for one in distances_from(program, want)))
         return want is not None

@@ -38,7 +38,8 @@ class StruckRunTest(unittest.TestCase):
         self.assertEqual(run.program(), example_11())
 
     def test_it_does_what_an_abort_does(self):
-        tasks = {"x": nest({"p": [("call", "x", "k", [])]}, [("take", "k", [("call", "c", "e", [])])]) + [("take", "m", [])],
+        inner = [("take", "k", [("call", "c", "e", [])])]
+        tasks = {"x": nest({"p": [("call", "x", "k", [])]}, inner) + [("take", "m", [])],
                  "c": [("take", "e", [])], "y": [("call", "x", "m", [("note", "z")])]}
         steps = [BEGIN, ("x", "begin"), ("p", "call"), ("x", "take"), ("y", "call"), ("x", "call")]
         struck = StruckRun(Program(nest(tasks)), ["x"], steps + [("x", "struck")])
@@ -77,7 +78,8 @@ class StruckRunTest(unittest.TestCase):
     def test_equal(self):
         program = example_11()
         one = StruckRun(program, ["a", "b"], [BEGIN, ("a", "struck"), ("b", "struck")])
-        self.assertEqual(one, StruckRun(steps=[BEGIN, ("b", "struck"), ("a", "struck")], strikable=("b", "a"), program=program))
+        other = StruckRun(steps=[BEGIN, ("b", "struck"), ("a", "struck")], strikable=("b", "a"), program=program)
+        self.assertEqual(one, other)
         self.assertNotEqual(one, StruckRun(program, ["a", "b"], [BEGIN, ("b", "struck")]))
         self.assertNotEqual(StruckRun(program, ["a"]), StruckRun(program, ["b"]))
         for other in any_objects():
@@ -163,7 +165,8 @@ class ValuesTest(unittest.TestCase):
         fewer = 0
         # The last ones are such that strikes add values.
         programs = [servers(seed) if seed % 2 else made_up(seed) for seed in range(60)]
-        programs += [servers(seed) for seed in (117, 168, 311, 859)] + [made_up(seed) for seed in (336, 730, 1032, 1120)]
+        programs += [servers(seed) for seed in (117, 168, 311, 859)]
+        programs += [made_up(seed) for seed in (336, 730, 1032, 1120)]
         for program in programs:
             strikable = [task for task in reversed(program.tasks()) if task != "main"][:3]
             calm = world_of(program)

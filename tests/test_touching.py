@@ -42,7 +42,8 @@ class WrittenTest(unittest.TestCase):
         self.check(program, order, [("end", "b"), ("end", "s"), ("row", "s", "e"), ("task", "b"), ("task", "s")], [])
 
     def test_who_ends_asks_its_rows(self):
-        program = Program(nest({"s": [("note", "x"), ("if", "f", [("take", "e", [])], [])], "a": [("call", "s", "e", [])]}))
+        program = Program(nest({"s": [("note", "x"), ("if", "f", [("take", "e", [])], [])],
+                                "a": [("call", "s", "e", [])]}))
         self.check(program, [BEGIN, ("s", "note")], [("end", "s"), ("task", "s")], [("row", "s", "e")])
         self.check(program, [BEGIN, ("s", "note"), ("a", "call")], [("end", "a"), ("task", "a")], [("end", "s")])
 
@@ -66,8 +67,8 @@ class WrittenTest(unittest.TestCase):
         program = Program(nest(tasks))
         self.check(program, [BEGIN, ("z", "abort")], [("end", "a"), ("task", "a"), ("task", "z")], [("end", "c")])
         order = [BEGIN, ("a", "begin"), ("a", "call"), ("s", "take"), ("z", "abort")]
-        self.check(program, order, [("end", "a"), ("end", "c"), ("task", "a"), ("task", "c"), ("task", "s"), ("task", "z")],
-                   [])
+        self.check(program, order,
+                   [("end", "a"), ("end", "c"), ("task", "a"), ("task", "c"), ("task", "s"), ("task", "z")], [])
         again = Program(nest({"a": nest({"c": []}), "z": [("abort", "a"), ("abort", "a"), ("note", "x")]}))
         self.check(again, [BEGIN, ("z", "abort"), ("z", "abort")], [("task", "z")], [("end", "a"), ("end", "c")])
 

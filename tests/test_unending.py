@@ -61,7 +61,7 @@ class UnendingTest(unittest.TestCase):
                 self.assertIs(are_end_helpers(program, kind, thing), False)
 
     def test_left_over(self):
-        program = Program(nest({"a": [("pick", [[("take", "e", [])], []])], "b": [("pick", [[("take", "e", [])], []])]}))
+        program = Program(nest({name: [("pick", [[("take", "e", [])], []])] for name in "ab"}))
         self.assertEqual(left_over(program), [("a", "main"), ("b", "main"), ("a", "b", "main")])
 
     def test_just_one_of_both(self):

@@ -34,7 +34,8 @@ class StuckTest(unittest.TestCase):
     def test_whoever_is_aborted_or_broken_is_moved(self):
         program = Program(nest({"a": [("take", "e", [])], "z": [("abort", "a")]}))
         self.assertEqual(stuck(Run(program, [BEGIN])), [])
-        program = Program(nest({"a": [("call", "s", "e", [])], "s": [("note", "x"), ("if", "f", [("take", "e", [])], [])]}))
+        program = Program(nest({"a": [("call", "s", "e", [])],
+                                "s": [("note", "x"), ("if", "f", [("take", "e", [])], [])]}))
         self.assertEqual(stuck(Run(program, [BEGIN, ("a", "call")])), [])
 
     def test_a_closing_one(self):
