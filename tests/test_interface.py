@@ -31,6 +31,21 @@ INTERFACE = {
     "harming": "harms(program, strikable, task, kind); harmed(program, strikable, task, kind, lot); "
                "is_harm(program, strikable, task, kind, lot, thing)",
     "moreends": "with_ends(program, offers); fewest_ends(program, kind)",
+    "sentences": "values_coming(program, marks=()); values_left(program, marks=()); "
+                 "breach(program, sentence, at_end, marks=())",
+    "marks": "keepers(program, sentence, at_end, marks); breakers(program, sentence, at_end, marks); "
+             "barred_abort(program, marks)",
+    "uses": "first_open(thing, entry, names); shut_ring(thing, entry, names); "
+            "is_shut_ring(thing, entry, names, pair); helpers_of(thing, entry); idle_lots(thing, entry)",
+    "callrows": "gone_on(thing, callers, calls); calls_that_part(one, other, callers); like_values(thing, callers); "
+                "least_thing(thing, callers); with_least_things(program)",
+    "servers": "Servers(program) with program, names, first",
+    "crowds": "Crowd(servers, body) with servers, body, spots, knowns",
+    "crowdruns": "CrowdRun(crowd, many, steps=()) with let, more(steps), steps, known, counts",
+    "leaststands": "least_many(crowd, wanted); run_to(crowd, wanted); least_stands(crowd, wanted); "
+                   "shows_never(crowd, wanted, thing)",
+    "allcounts": "known_numbers(crowd); spot_numbers(crowd); enough(crowd); most_in(crowd, spot, most)",
+    "outside": "entries_of(servers); can_be(servers, row); can_be_left(servers, row, lot); left_lots(servers, row)",
 }
 
 
