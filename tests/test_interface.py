@@ -46,6 +46,18 @@ INTERFACE = {
                    "shows_never(crowd, wanted, thing)",
     "allcounts": "known_numbers(crowd); spot_numbers(crowd); enough(crowd); most_in(crowd, spot, most)",
     "outside": "entries_of(servers); can_be(servers, row); can_be_left(servers, row, lot); left_lots(servers, row)",
+    "callers": "Caller(states) with states; left_row(servers, caller); is_safe(servers, caller)",
+    "likecallers": "may_part(one, other); must_part(one, other); caller_apart(one, other); "
+                   "can_stand_for(newer, elder); worse_pair(newer, elder)",
+    "leastmachines": "least_machine(servers); lots_along(machine, row)",
+    "greatest": "greatest_caller(servers); goes_along(servers, caller)",
+    "jobs": "Jobs(jobs) with jobs, cost(job), ceiling(thing); done(jobs, comings); answers(jobs, comings); "
+            "breakdown(jobs, comings, job, number)",
+    "longest": "most_barred(jobs, job); lock_against(jobs, job); longest_answer(jobs, job); "
+               "worst_comings(jobs, job); least_distance(jobs, job, ends)",
+    "ceilings": "tangle(jobs, thing, ceiling); least_ceiling(jobs, thing)",
+    "timed": "Timed(tasks) with tasks; is_course(timed, thing)",
+    "fates": "all_fates(timed); course_with(timed, fates); come_to(timed, task, path); is_late(timed, task, path)",
 }
 
 
