@@ -61,7 +61,7 @@ class Search:
             self.seen[known, lot] = True
             heappush(self.coming, (self.packing.total(lot), known, lot))
 
-    def find(self):
+    def next_stand(self):
         """The next least stand, or None. No step makes like ones more or fewer: so none found later is less."""
         while self.coming:
             _, known, lot = heappop(self.coming)
@@ -80,12 +80,12 @@ class Search:
 
 def least_number(search):
     """The least number of like ones with which some run comes to the goals of a search, or None."""
-    found = search.find()
+    found = search.next_stand()
     while found is not None:
         known, lot = found
         if search.is_home(known, lot):
             return search.packing.number_in(lot, search.steps.home)
-        found = search.find()
+        found = search.next_stand()
     return None
 
 

@@ -76,11 +76,11 @@ def least_stands(crowd, wanted):
     search, _ = search_for(crowd, known, counts)
     steps = search.steps
     found = []
-    stand = search.find()
+    stand = search.next_stand()
     while stand is not None:
         inner = search.packing.counts_in(stand[1])
         found.append((steps.told[stand[0]], {steps.spots[spot]: inner[spot] for spot in inner}))
-        stand = search.find()
+        stand = search.next_stand()
     return sorted(found, key=lambda pair: (pair[0], list(pair[1].items())))
 
 
