@@ -23,9 +23,6 @@ class Packing:
     def counts_in(self, lot):
         return {spot: self.number_in(lot, spot) for spot in self.spots if self.number_in(lot, spot)}
 
-    def is_within(self, lot, other):
-        return ((other | self.guard) - lot) & self.guard == self.guard
-
     def is_covered(self, lot, rows):
         """Whether one of some counts lies within these."""
         high = lot | self.guard

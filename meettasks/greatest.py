@@ -48,9 +48,7 @@ def greatest_caller(servers):
 
 
 def is_along(machine, greatest, steps, at):
-    """Whether a state of a caller is ready as the greatest caller's state asks."""
-    if at not in greatest:
-        return False
+    """Whether a state of a caller is ready as the greatest caller's state asks; so it never comes to other states."""
     inner, needs = greatest[at]
     if any([entry in machine[at][2] and entry not in inner for entry in steps]):
         return False

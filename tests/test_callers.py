@@ -79,7 +79,7 @@ class CallerTest(unittest.TestCase):
             self.assertEqual(error.index, 0)
         good = ({X: 0}, True)
         for state in any_objects() + [({X: 1}, 1), ({X: 2}, True), ({X: -1}, True), ({X: True}, True), ({X: "0"}, True),
-                                      ({"s": 0}, True), ({("s",): 0}, True), ({("s", "X"): 0}, True), ({X: 0},),
+                                      ({"s": 0}, True), ({("s",): 0}, True), ({("s", "X"): 0}, True), ({("S", "x"): 0}, True), ({X: 0},),
                                       ({("s", "x", "y"): 0}, True), ({("s", 1): 0}, True), ({X: 0}, True, 0),
                                       ([(X, 0)], True), ({X: None}, False), (True, {X: 0}), ({X: 0, Y: 2}, False)]:
             error = raised(Caller, [good, state])

@@ -72,6 +72,24 @@ class CrowdTest(unittest.TestCase):
         self.assertEqual(crowd.knowns(), [((((0, 0, 0), ()),), ())])
         self.assertEqual(crowd.spots(), [("calling", (0,)), ("ended", ()), ("met", (0,)), ("ready", (0,))])
 
+    def test_uses_lead_values(self):
+        servers = Servers(Program(nest({"s": [("again", [("take", "e", []), ("use", "t", "cut")])]}), {"t": SWITCH}))
+        crowd = Crowd(servers, [("use", "t", "turn"), ("call", "s", "e", [])])
+        self.assertEqual(crowd.knowns(), [((((0, 0, at), ()),), (value,)) for at in (0, 1) for value in ("off", "on")])
+        run = CrowdRun(crowd, 1, [("like", (0,)), ("like", (1,)), ("s", "take")])
+        self.assertEqual([run.known(), run.counts()], [((((0, 0, 1), ()),), ("on",)), {("ended", ()): 1}])
+        self.assertEqual(run.more([("s", "use")]).known(), ((((0, 0, 0), ()),), ("off",)))
+
+    def test_several_things(self):
+        body = [("again", [("take", "e", []), ("use", "b", "turn")])]
+        servers = Servers(Program(nest({"s": body}), {"a": SWITCH, "b": SWITCH, "c": SWITCH}))
+        run = CrowdRun(Crowd(servers, [("use", "a", "turn"), ("call", "s", "e", []), ("use", "c", "turn")]), 1)
+        values = []
+        for step in (("like", (0,)), ("like", (1,)), ("s", "take"), ("s", "use"), ("like", (2,))):
+            run = run.more([step])
+            values.append(run.known()[1])
+        self.assertEqual(values, [("on", "off", "off")] * 3 + [("on", "on", "off"), ("on", "on", "on")])
+
     def test_knowns_by_stepping(self):
         many = 0
         for seed in range(40):
@@ -162,6 +180,7 @@ class CrowdRunTest(unittest.TestCase):
         told = CrowdRun(crowd, many)
         for turn in range(14):
             self.assertEqual((told.known(), told.counts()), state_of_run(run, likes, servers))
+            self.assertEqual(list(told.counts()), sorted(told.counts()))
             steps = {}
             for step in run.let():
                 as_like = ("like", run.place(step[0])) + step[2:] if step[0] in likes else step

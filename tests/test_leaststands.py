@@ -201,11 +201,14 @@ class PaperTest(unittest.TestCase):
         self.assertTrue(shows_never(crowd, TWO, as_lists))
         for at in range(len(told)):
             self.assertFalse(shows_never(crowd, TWO, told[:at] + told[at + 1:]))
+            for spot in crowd.spots():
+                great = [(told[at][0], {spot: 10 ** 30})]
+                self.assertFalse(shows_never(crowd, TWO, told[:at] + great + told[at + 1:]))
         home = ("ready", (0, 0, 0))
         for pair in ((FIRST, {}), (FIRST, {home: 5}), (FIRST, {NOTE: 0}), (FIRST, {NOTE: True}), (FIRST, None),
                      (FIRST, {("met", (0, 0, 1)): 1}), (FIRST,), FIRST, None, ((), {}), (((), ()), {NOTE: 3}),
                      (FIRST, {NOTE: 3}, 0), ((FIRST[0],), {NOTE: 3}), ((FIRST[0], ("x",)), {NOTE: 3}),
-                     ((FIRST[0], None), {NOTE: 3}), (((((0, 0, False), ()),), ()), {NOTE: 3})):
+                     ((FIRST[0], None), {NOTE: 3}), (((((0, 0, 0), None),), ()), {NOTE: 3}), (((((0, 0, False), ()),), ()), {NOTE: 3})):
             self.assertIs(shows_never(crowd, TWO, told + [pair]), False)
         for thing in any_objects():
             self.assertIs(shows_never(crowd, TWO, thing), False)

@@ -2,12 +2,13 @@
 
 import random
 import unittest
+from math import lcm
 
 from meettasks.ceilings import least_ceiling, tangle
 from meettasks.errors import BadCeiling, BadEnds, NoThing
 from meettasks.jobs import Jobs, answers, done
-from meettasks.longest import least_distance, longest_answer, most_barred, worst_comings
-from tests.jobmakers import PlainClock, all_comings, example_65, made_up_jobs
+from meettasks.longest import least_distance, lock_against, longest_answer, most_barred, worst_comings
+from tests.jobmakers import PlainClock, all_comings, example_65, made_up_jobs, units_along
 from tests.objects import any_objects, raised
 
 
@@ -101,6 +102,29 @@ class LongestTest(unittest.TestCase):
                 if longest is not None:
                     self.assertEqual(best[job], longest)
 
+    def test_a_stretch_without_end(self):
+        # At a load of one, behind a lock, others go on coming till all of so many moments are answered.
+        behind = 0
+        for seed in range(600):
+            jobs = made_up_jobs(seed, many=seed % 3 + 2)
+            for job in jobs.jobs():
+                if load_is_one(jobs, job) and most_barred(jobs, job):
+                    behind += self.check_endless(jobs, job)
+        self.assertGreater(behind, 3)
+
+    def check_endless(self, jobs, job):
+        table = jobs.jobs()
+        other, path = lock_against(jobs, job)
+        rows = units_along(table[other][2])
+        start = [at for at, row in enumerate(rows) if path in [one for _, one in row]][0] + 1
+        some = [one for one in table if table[one][0] >= table[job][0]]
+        whole = lcm(*[table[one][1] for one in some])
+        comings = {one: [start + turn * table[one][1] for turn in range(4 * whole // table[one][1])] for one in some}
+        comings[other] = [0]
+        times = answers(jobs, comings)[job][:whole // table[job][1]]
+        self.assertEqual(longest_answer(jobs, job), max(times))
+        return comings[job][len(times) - 1] + times[-1] > start + whole
+
     def test_told_anew(self):
         jobs = example_65()
         worst_comings(jobs, "m")[0].clear()
@@ -184,6 +208,7 @@ class DistanceTest(unittest.TestCase):
         self.assertEqual(least_distance(ends={"m": 7}, job="h", jobs=example_65()), 6)
         self.assertIsNone(least_distance(example_65(), "h", {"m": 5}))
         self.assertEqual(least_distance(example_65(), "h", {}), 1)
+        self.assertEqual(least_distance(Jobs({"a": (5, 9, [1]), "b": (2, 9, [1])}), "a", {"a": 1}), 1)
 
     def with_distance(self, jobs, job, distance):
         table = jobs.jobs()

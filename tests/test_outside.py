@@ -81,6 +81,8 @@ class OutsideTest(unittest.TestCase):
                 (of_body(("take", "x", [("take", "y", [])]), a=[NOTE]), "a", (0,)),
                 (of_body(("take", "x", [("take", "y", [])]), z=[NOTE]), "s", (0, 0, 0, 0, 0)),
                 (of_body(TAKE, ("again", [("again", [("leave",), NOTE]), ("leave",)])), None, None),
+                (of_body(("again", [TAKE])), None, None), (of_body(("again", [NOTE, TAKE])), None, None),
+                (of_body(("again", [("again", [("pick", [[TAKE], [("leave",)]])]), TAKE])), None, None),
                 (of_body(("again", [("again", [("leave",), TAKE]), NOTE]), TAKE), "s", (0, 0, 0))):
             for work, more in ((entries_of, ()), (can_be, (None,)), (can_be_left, (None, None)), (left_lots, (None,))):
                 error = raised(work, servers, *more)

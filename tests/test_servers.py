@@ -34,6 +34,11 @@ class ServersTest(unittest.TestCase):
                                                      for task in servers.names()),
                                                tuple(run.value(name) for name in servers.program().things())))
 
+    def test_flags_ascending(self):
+        body = [("again", [("set", "g", True), ("set", "f", True), ("set", "h", True), ("set", "h", False),
+                           ("take", "e", [])])]
+        self.assertEqual(Servers(Program(nest({"a": body}))).first(), ((((0, 0, 4), ("f", "g")),), ()))
+
     def test_equal(self):
         self.assertEqual(door("in", "out"), door("in", "out"))
         self.assertNotEqual(door("in", "out"), door("out", "in"))

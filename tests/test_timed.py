@@ -103,6 +103,33 @@ class CourseTest(unittest.TestCase):
         self.assertEqual(false, MOMENTS)
         self.assertFalse(is_course(timed, (MEET, false)))
 
+    def test_fates_that_are_none(self):
+        timed = example_73()
+        for fate in (None, "late", (), (1,), 3, ("meets", 1, (1,)), ("meets", "s", None), ("meets", "s"),
+                     ("meets", "s", (1,), 0), ("meets", "s", "1"), [["late"]], {"late": 1}, ("meets", None, (1,))):
+            self.assertIs(is_course(timed, ((("a", (1,), fate), MEET[1]), MOMENTS)), False)
+            self.assertIsInstance(raised(course_with, timed, (("a", (1,), fate), MEET[1])), BadFates)
+        for row in (None, (), ("a", (1,)), (1, (1,), ("late",)), ("a", None, ("late",)), ("a", (1,), ("late",), 0)):
+            self.assertIs(is_course(timed, ((row, MEET[1]), MOMENTS)), False)
+            self.assertIsInstance(raised(course_with, timed, (row, MEET[1])), BadFates)
+
+    def test_who_has_a_limit_does_not_stay(self):
+        alone = {("a", (0,)): 0, ("b", ()): 0}
+        for limit, fates in ((None, ("stays",)), (3, ("late",))):
+            timed = Timed({"a": [("call", "b", "e", limit, [])], "b": []})
+            for fate in (("stays",), ("late",)):
+                for moments in (alone, {**alone, ("a", ()): 3}, {**alone, ("a", ()): 0}):
+                    told = is_course(timed, ((("a", (0,), fate),), moments))
+                    right = moments == alone if limit is None else moments.get(("a", ())) == 3
+                    self.assertEqual(told, fate == fates and right)
+
+    def test_entries_called_like_tasks(self):
+        # Two who call, or two who take, never meet, whatever entries are called.
+        timed = Timed({"a": [("call", "b", "c", None, [])], "b": [("call", "c", "e", None, [])], "c": []})
+        self.assertEqual(all_fates(timed), [(("a", (0,), ("stays",)), ("b", (0,), ("stays",)))])
+        timed = Timed({"a": [("take", "b", None, 0, 0, [])], "b": [("take", "a", None, 0, 0, [])]})
+        self.assertEqual(all_fates(timed), [(("a", (0,), ("stays",)), ("b", (0,), ("stays",)))])
+
     def test_at_the_very_moment(self):
         # Whoever waited as long as may be may still be met by who comes then; also with limit 0.
         timed = Timed({"a": [("call", "s", "e", 2, [])], "s": [("work", 2, 2), ("take", "e", 0, 0, 0, [])]})
