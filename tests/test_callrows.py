@@ -111,6 +111,9 @@ class AlikeTest(unittest.TestCase):
         self.assertIsNone(calls_that_part(DOOR, DOOR, 3))
         self.assertIsInstance(raised(calls_that_part, DOOR, LOCK, 2), UnlikeNames)
         self.assertIsInstance(raised(calls_that_part, DOOR, LOCK, 0), BadNumber)
+        one = Thing(["x"], "x", {"do": {"x": "x"}}, {"go": {}})
+        for deeds, entries in (({"do": {"x": "x"}}, {}), ({}, {"go": {}}), ({"be": {"x": "x"}}, {"go": {}})):
+            self.assertIsInstance(raised(calls_that_part, one, Thing(["x"], "x", deeds, entries), 1), UnlikeNames)
         # Names are the same, but not what they are names of.
         one = Thing(["x"], "x", {"do": {"x": "x"}}, {"go": {}})
         other = Thing(["x"], "x", {"go": {"x": "x"}}, {"do": {}})

@@ -209,6 +209,8 @@ class DistanceTest(unittest.TestCase):
         self.assertIsNone(least_distance(example_65(), "h", {"m": 5}))
         self.assertEqual(least_distance(example_65(), "h", {}), 1)
         self.assertEqual(least_distance(Jobs({"a": (5, 9, [1]), "b": (2, 9, [1])}), "a", {"a": 1}), 1)
+        locked = Jobs({"a": (5, 9, [("t", [1])]), "b": (2, 9, [("t", [3])])})
+        self.assertEqual([least_distance(locked, "a", {"a": end}) for end in (2, 3, 4)], [None, 1, 1])
 
     def with_distance(self, jobs, job, distance):
         table = jobs.jobs()

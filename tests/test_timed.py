@@ -92,6 +92,8 @@ class CourseTest(unittest.TestCase):
             self.assertFalse(is_course(timed, (MEET, {**MOMENTS, pair: number})))
         for pair in MOMENTS:
             self.assertFalse(is_course(timed, (MEET, {key: MOMENTS[key] for key in MOMENTS if key != pair})))
+        for key in ("x", ("a",), ("a", (0,), 1), ("a", 0), ("a", (0, 0)), ("z", ()), (None, ()), 3, ("a", None)):
+            self.assertIs(is_course(timed, (MEET, {**MOMENTS, key: 0})), False)
         for fates in (MEET[::-1], MEET[:1], MEET + MEET[1:], LATE, (MEET[0], LATE[1]), MEET + (("a", (2,), ("late",)),),
                       (("a", (1,), ("meets", "s", (0,))), MEET[1]), (("a", (True,), ("late",)), LATE[1]),
                       (("a", (1,), ("stays",)), LATE[1]), (("a", (1,), ("late", 1)), LATE[1]), None, (None,)):
