@@ -5,6 +5,7 @@ from meettasks.bodies import bodies_in, deed_at
 from meettasks.errors import BadMarks
 from meettasks.graphs import graph_of
 from meettasks.steps import is_at_end_offer
+from meettasks.ways import way_to
 
 
 def as_mark(program, thing):
@@ -79,12 +80,7 @@ class Walk:
 
     def row_to(self, at):
         """The first row of steps to a stand."""
-        steps = []
-        while self.parents[at] is not None:
-            at, step = self.parents[at]
-            steps.append(step)
-        steps.reverse()
-        return steps
+        return way_to(self.parents, at)
 
 
 def walk_with(program, marks):

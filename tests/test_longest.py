@@ -12,23 +12,22 @@ from tests.jobmakers import PlainClock, all_comings, example_65, made_up_jobs, u
 from tests.objects import any_objects, raised
 
 
-def load_above_one(jobs, job):
-    """Whether the load of a job and all of greater priority is above 1, by whole numbers."""
+def load_over(jobs, job):
+    """By how much the load of a job and all of greater priority is above 1, in a common part of whole numbers."""
     table = jobs.jobs()
     some = [one for one in table if table[one][0] >= table[job][0]]
     whole = 1
     for one in some:
         whole *= table[one][1]
-    return sum(jobs.cost(one) * whole // table[one][1] for one in some) > whole
+    return sum(jobs.cost(one) * whole // table[one][1] for one in some) - whole
+
+
+def load_above_one(jobs, job):
+    return load_over(jobs, job) > 0
 
 
 def load_is_one(jobs, job):
-    table = jobs.jobs()
-    some = [one for one in table if table[one][0] >= table[job][0]]
-    whole = 1
-    for one in some:
-        whole *= table[one][1]
-    return sum(jobs.cost(one) * whole // table[one][1] for one in some) == whole
+    return load_over(jobs, job) == 0
 
 
 class LongestTest(unittest.TestCase):
