@@ -92,8 +92,6 @@ class MachineTest(unittest.TestCase):
     def test_alike_just_if_machines_are_equal(self):
         same = 0
         for one, other in alike_servers(range(150)):
-            self.assertEqual([state[1:] for state in least_machine(one)] == [state[1:] for state in least_machine(other)],
-                             must_part(one, other) is None)
             self.assertEqual(least_machine(one) == least_machine(other), must_part(one, other) is None)
             same += must_part(one, other) is None
         self.assertGreater(same, 3)
@@ -175,7 +173,8 @@ class SafeTest(unittest.TestCase):
                 steps, needs = told[at]
                 self.assertEqual(list(steps.items()), sorted((entry, machine[at][2][entry])
                                                              for entry in kept(machine, at, lot)))
-                free = [one for one in lots_of(sorted(steps)) if not any(set(one) <= set(left) for left in machine[at][1])]
+                free = [one for one in lots_of(sorted(steps))
+                        if not any(set(one) <= set(left) for left in machine[at][1])]
                 self.assertEqual(needs, [one for one in free if not any(set(less) < set(one) for less in free)])
             some += 1
         self.assertGreater(min(none, some), 3)

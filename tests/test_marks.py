@@ -7,6 +7,7 @@ from meettasks.errors import BadMarks, BadSentence, BadTruth
 from meettasks.marks import barred_abort, breakers, keepers
 from meettasks.programs import Program
 from meettasks.sentences import breach
+from meettasks.things import Thing
 from tests.makers import CELL, LOCK, example_33, made_up, nest
 from tests.marked import MarkedWorld
 from tests.objects import any_objects, raised
@@ -39,7 +40,6 @@ class LotsTest(unittest.TestCase):
         def guarded(word):
             return [("pick", [[("again", [("use", "t", word), ("use", "t", word), ("leave",)])], []])]
         turn = {"no": "yes", "yes": "no"}
-        from meettasks.things import Thing
         thing = Thing(["no", "yes"], "no", {"turn": turn}, {})
         program = Program(nest({"a": guarded("turn"), "b": guarded("turn"), "c": [("abort", "a"), ("abort", "b")]}),
                           {"t": thing})
@@ -104,10 +104,8 @@ class BarredTest(unittest.TestCase):
         self.assertEqual((row, task), MarkedWorld(helped, [("a", (0,))]).barred_abort())
 
     def test_a_call_is_not_inside_itself(self):
-        tasks = {"a": [("call", "s", "e", [("note", "x")])], "s": [("if", "f", [("take", "e", [])], [])],
-                 "c": [("abort", "a")], "s2": []}
-        del tasks["s2"]
-        tasks["s"] = [("wait", "t", "have"), ("wait", "t", "have"), ("take", "e", [])]
+        tasks = {"a": [("call", "s", "e", [("note", "x")])], "c": [("abort", "a")],
+                 "s": [("wait", "t", "have"), ("wait", "t", "have"), ("take", "e", [])]}
         program = Program(nest(tasks), {"t": LOCK})
         self.assertIsNone(barred_abort(program, [("a", (0,))]))
 
@@ -117,12 +115,16 @@ class BarredTest(unittest.TestCase):
         self.assertEqual(barred_abort(program, [("a", (0,))]), ([BEGIN, ("a", "pick", 0)], "a"))
 
     def test_begun_anew(self):
-        # Others end it and begin it anew: at its abort it stands again, and nobody is inside then.
-        inner = nest({"c": [("abort", "p")], "p": [("again", [("wait", "t", "have")])]}, [("note", "x")])
-        tasks = {"m": [("again", inner)], "k": [("again", [("note", "y")])]}
-        program = Program(nest(tasks), {"t": LOCK})
+        # Only when t has ended p is let go on: begun anew t has to stand at its abort without a step of its own.
+        thing = Thing(["no", "yes"], "no", {"put": {"no": "yes", "yes": "yes"}}, {"get": {"yes": "no"}})
         marks = [("p", (0,))]
-        self.assertEqual(barred_abort(program, marks), MarkedWorld(program, marks).barred_abort())
+        for ahead, task in (([], None), ([("note", "x")], "t")):
+            inner = nest({"t": ahead + [("abort", "p")], "k": [("abort", "t")]})
+            program = Program(nest({"p": [("if", "f", [], [("wait", "u", "get")])],
+                                    "m": [("again", inner + [("use", "u", "put")])]}), {"u": thing})
+            told = barred_abort(program, marks)
+            self.assertEqual(told, MarkedWorld(program, marks).barred_abort())
+            self.assertEqual(None if told is None else told[1], task)
 
     def test_by_stepping(self):
         found = 0

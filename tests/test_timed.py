@@ -62,7 +62,8 @@ class TimedTest(unittest.TestCase):
         bad = any_objects() + [
             ("note",), ("note", "X"), ("note", "x", 1), ("work", 1), ("work", 2, 1), ("work", -1, 1), ("work", 0, True),
             ("work", 0, None), ("work", 0, 1, 2), ("call", "b", "e", None), ("call", "b", "e", -1, []),
-            ("call", "b", "e", True, []), ("call", "b", 1, 1, []), ("call", "b", "e", 1, None), ("call", "z", "e", 1, []),
+            ("call", "b", "e", True, []), ("call", "b", 1, 1, []), ("call", "b", "e", 1, None),
+            ("call", "z", "e", 1, []), ("call", ["b"], "e", 1, []), ("call", {}, "e", 1, []),
             ("call", "a", "e", 1, []), ("call", "b", "e", 1, [], []), ("take", "e", 1, 1, 1), ("take", "e", 1, 2, 1, []),
             ("take", "e", -1, 1, 1, []), ("take", "e", 1, 1, 1, None), ("take", "E", 1, 1, 1, []),
             ("take", "e", None, None, 1, []), ("take", "e", 1, 1, 1, [], 0), ("wait", 1, 2), ("nothing",), note]
