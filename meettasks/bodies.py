@@ -154,6 +154,25 @@ def copied_deed(deed):
     return tuple([copied(part) if is_list(part) else part for part in deed])
 
 
+def with_bodies(body, bodies):
+    """A body in the nests of which the tasks that are told have other bodies."""
+    return tuple([deed_with_bodies(deed, bodies) for deed in body])
+
+
+def deed_with_bodies(deed, bodies):
+    kind = deed[0]
+    if kind == "nest":
+        tasks = {task: bodies[task] if task in bodies else with_bodies(deed[1][task], bodies) for task in deed[1]}
+        return kind, tasks, with_bodies(deed[2], bodies)
+    if kind == "offer":
+        arms = tuple([(arm[0], arm[1], with_bodies(arm[2], bodies)) for arm in deed[1]])
+        has_body = deed[2] is not None and deed[2][0] == "else"
+        return kind, arms, ("else", with_bodies(deed[2][1], bodies)) if has_body else deed[2]
+    if kind == "pick":
+        return kind, tuple([with_bodies(inner, bodies) for inner in deed[1]])
+    return tuple([with_bodies(part, bodies) if is_list(part) else part for part in deed])
+
+
 def deed_at(body, path):
     """The deed that a path leads to, None for any object that leads to none."""
     if not is_path(path) or len(path) % 2 == 0:

@@ -48,6 +48,7 @@ class Bounds:
         for pair in (behind, with_mate):
             self.put_both(spot.pair, pair, take.deed[3], take.deed[4])
         self.put_both(behind, with_mate, 0, 0)
+        self.later[mate.pair] = spot.pair
         if mate.limit() is not None:
             self.put(mate.pair, spot.pair, mate.limit())
 
@@ -76,17 +77,72 @@ class Bounds:
 
     def moments(self):
         """The least moments that keep all bounds, the first ones at 0; None if there are none."""
-        found = {pair: 0 for pair in self.pairs}
-        for _ in range(len(found) + 1):
+        return least_moments(self.pairs, self.numbers)
+
+    def moments_at(self, one, other, number):
+        """The least moments with this distance from the one to the other, if there are any with it."""
+        numbers = {key: self.numbers[key] for key in self.numbers}
+        if one != other:
+            numbers[one, other] = number
+            numbers[other, one] = -number
+        return least_moments(self.pairs, numbers)
+
+    def least_from(self, start):
+        """By pairs the least sums of bounds along ways from one on, if no ring is below 0, and which is right ahead."""
+        least = {start: 0}
+        ahead = {}
+        changed = True
+        while changed:
             changed = False
             for one, other in self.numbers:
-                least = found[other] - self.numbers[one, other]
-                if found[one] < least:
-                    found[one] = least
-                    changed = True
-            if not changed:
-                return found
-        return None
+                if one in least:
+                    number = least[one] + self.numbers[one, other]
+                    if other not in least or number < least[other]:
+                        least[other] = number
+                        ahead[other] = one
+                        changed = True
+        return least, ahead
+
+    def ring(self):
+        """Pairs along which bounds sum below 0 from each to the next one and back to the first, or None."""
+        least = {pair: 0 for pair in self.pairs}
+        ahead = {}
+        changed = None
+        for _ in self.pairs:
+            changed = None
+            for one, other in self.numbers:
+                if least[one] + self.numbers[one, other] < least[other]:
+                    least[other] = least[one] + self.numbers[one, other]
+                    ahead[other] = one
+                    changed = other
+        # What changes as often as there are pairs is led to by a ring of those right ahead.
+        return None if changed is None else ring_to(changed, ahead)
 
     def are_kept(self, moments):
         return all([moments[other] - moments[one] <= self.numbers[one, other] for one, other in self.numbers])
+
+
+def least_moments(pairs, numbers):
+    """The least moments from 0 on that keep bounds, None if there are none."""
+    found = {pair: 0 for pair in pairs}
+    for _ in range(len(found) + 1):
+        changed = False
+        for one, other in numbers:
+            least = found[other] - numbers[one, other]
+            if found[one] < least:
+                found[one] = least
+                changed = True
+        if not changed:
+            return found
+    return None
+
+
+def ring_to(pair, ahead):
+    """The ring that leads to a pair, by those right ahead."""
+    for _ in list(ahead):
+        pair = ahead[pair]
+    found = [pair]
+    while ahead[found[-1]] != pair:
+        found.append(ahead[found[-1]])
+    found.reverse()
+    return found

@@ -5,26 +5,32 @@ from meettasks.plans import GOING
 ABSENT = -2
 ENDED = -1
 
+NOBODY = -1
+
 READY = 0
 IN_ROW = 1
 MET = 2
 
 
 class Stand:
-    """All that is so between two steps, by numbers; key tells it by tuples alone."""
+    """All that is so between two steps, by numbers; key tells it by tuples alone.
 
-    def __init__(self, places, modes, truths, holds, queues, levels):
+    Nests are the rows of code that began those that its tasks have not closed; () of programs, where places tell it.
+    """
+
+    def __init__(self, places, modes, truths, holds, queues, levels, nests):
         self.places = places
         self.modes = modes
         self.truths = truths
         self.holds = holds
         self.queues = queues
         self.levels = levels
-        self.key = (places, modes, truths, holds, queues, levels)
+        self.nests = nests
+        self.key = (places, modes, truths, holds, queues, levels, nests)
 
 
 class Doing:
-    """A stand that is being changed by one step; of held callers None is -1."""
+    """A stand that is being changed by one step; of held callers None is NOBODY."""
 
     def __init__(self, plan, stand):
         self.plan = plan
@@ -34,6 +40,7 @@ class Doing:
         self.holds = list(stand.holds)
         self.queues = list(stand.queues)
         self.levels = list(stand.levels)
+        self.nests = list(stand.nests)
         self.told = []
         self.trail = []
         self.written = 0
@@ -42,7 +49,7 @@ class Doing:
 
     def made(self):
         return Stand(tuple(self.places), tuple(self.modes), tuple(self.truths), tuple(self.holds),
-                     tuple(self.queues), tuple(self.levels))
+                     tuple(self.queues), tuple(self.levels), tuple(self.nests))
 
     def spot_of(self, task):
         return self.plan.spots[task][self.places[task]]
@@ -85,14 +92,29 @@ class Doing:
     def begin(self, task):
         self.truths[task] = ()
         self.holds[task] = ()
+        self.forget_nests(task)
         self.written |= self.plan.end_bits[task]
         self.go(task, self.plan.firsts[task])
+
+    def forget_nests(self, task):
+        if self.nests:
+            self.nests[task] = ()
+
+    def open_nest(self, task, place):
+        """One begun again that was not closed counts once, as the last one."""
+        if self.nests:
+            self.nests[task] = tuple([one for one in self.nests[task] if one != place]) + (place,)
+
+    def close_nest(self, task):
+        if self.nests:
+            self.nests[task] = self.nests[task][:-1]
 
     def end(self, task):
         """The task has ended: whoever it holds is broken, then all in the rows of its entries."""
         self.places[task] = ENDED
         self.modes[task] = READY
         self.truths[task] = ()
+        self.forget_nests(task)
         self._moved.pop(task, None)
         self.told.append(("ended", self.plan.names[task]))
         self.written |= self.plan.task_bits[task] | self.plan.end_bits[task]
@@ -114,7 +136,7 @@ class Doing:
             self.take_from_row(task, spot.what[1] if spot.kind == "call" else spot.what[2])
         elif self.modes[task] == MET:
             holder = spot.what[0]
-            self.holds[holder] = tuple([-1 if one == task else one for one in self.holds[holder]])
+            self.holds[holder] = tuple([NOBODY if one == task else one for one in self.holds[holder]])
             self.written |= self.plan.task_bits[holder]
         self.modes[task] = READY
 
@@ -161,11 +183,10 @@ class Doing:
             self._moved.pop(task)
             self.trail.append((task, self.places[task]))
             while self.places[task] >= 0 and self.spot_of(task).kind in GOING:
-                self.go_silently(task)
+                self.go_silently(task, self.spot_of(task))
                 self.trail.append((task, self.places[task]))
 
-    def go_silently(self, task):
-        spot = self.spot_of(task)
+    def go_silently(self, task, spot):
         if spot.kind == "end":
             self.end(task)
             return
@@ -181,8 +202,8 @@ class Doing:
         self.places[task] = spot.goes[which]
 
     def part(self, task):
-        """The end of a meeting: the caller goes on behind its call."""
-        caller = self.holds[task][-1]
+        """The end of a meeting: the caller goes on behind its call; code can come to it without one."""
+        caller = self.holds[task][-1] if self.holds[task] else NOBODY
         self.holds[task] = self.holds[task][:-1]
         if caller >= 0:
             spot = self.spot_of(caller)

@@ -2,7 +2,7 @@
 
 from meettasks.bodies import entries_in
 
-GOING = ("set", "if", "again", "leave", "apart", "end")
+GOING = ("set", "if", "again", "leave", "go", "apart", "end")
 
 
 class Spot:
@@ -24,26 +24,24 @@ class Nest:
         self.last = last
 
 
-class Plan:
-    """Tasks, things, rows and what steps write are numbers in it; names are those of a program."""
+class Numbers:
+    """Tasks, things, rows and what steps write are numbers in it; spots of each task are put to it.
 
-    def __init__(self, program):
-        self.source = program
-        self.names = program.tasks()
-        self.number = {task: at for at, task in enumerate(self.names)}
-        self.masters = [-1 if task == "main" else self.number[program.master(task)[0]] for task in self.names]
-        self.below = [tuple([at for at in range(len(self.names)) if self.is_below(at, task)])
-                      for task in range(len(self.names))]
-        self._number_things(program)
-        self._number_rows(program)
+    Of code has_rows is True, and sign stands ahead of things among owners of rows, as tasks may be called like them.
+    """
+
+    def __init__(self, names, masters, entries, guarded, has_rows):
+        self.has_rows = has_rows
+        self.names = names
+        self.number = {task: at for at, task in enumerate(names)}
+        self.masters = [-1 if masters[task] is None else self.number[masters[task]] for task in names]
+        self.below = [tuple([at for at in range(len(names)) if self.is_below(at, task)])
+                      for task in range(len(names))]
+        self._number_things(guarded)
+        self._number_rows(entries, "*" if has_rows else "")
         self._number_parts()
         self.spots = []
         self.firsts = []
-        for task in self.names:
-            coder = Coder(self)
-            end = coder.new_spot("end", (), None, ())
-            self.firsts.append(coder.body(program.body(task), (), end, end))
-            self.spots.append(coder.spots)
 
     def is_below(self, at, task):
         """Whether a task begins by another one, at any depth."""
@@ -53,22 +51,26 @@ class Plan:
                 return True
         return False
 
-    def _number_things(self, program):
-        guarded = program.things()
+    def below_nest(self, tasks):
+        """The numbers of these tasks and of all that begin by them, ascending."""
+        return tuple([at for at in range(len(self.names))
+                      if at in tasks or any([at in self.below[task] for task in tasks])])
+
+    def _number_things(self, guarded):
         self.thing_names = list(guarded)
         self.thing_number = {name: at for at, name in enumerate(self.thing_names)}
         self.starts = [guarded[name].start() for name in self.thing_names]
         self.led = [guarded[name].deeds() for name in self.thing_names]
         self.opened = [guarded[name].entries() for name in self.thing_names]
 
-    def _number_rows(self, program):
-        owned = [(task, entry) for task in self.names for entry in entries_in(program.body(task))]
+    def _number_rows(self, entries, sign):
+        owned = [(task, entry) for task in self.names for entry in entries[task]]
         for at, name in enumerate(self.thing_names):
-            owned.extend([(name, entry) for entry in self.opened[at]])
+            owned.extend([(sign + name, entry) for entry in self.opened[at]])
         self.rows = sorted(owned)
         self.row_number = {self.rows[at]: at for at in range(len(self.rows))}
         self.task_rows = [self.rows_of(task) for task in self.names]
-        self.thing_rows = [self.rows_of(name) for name in self.thing_names]
+        self.thing_rows = [self.rows_of(sign + name) for name in self.thing_names]
 
     def rows_of(self, owner):
         """The numbers of an owner's rows, entries ascending."""
@@ -89,6 +91,25 @@ class Plan:
 
     def parts_in(self, lot):
         return [part for at, part in enumerate(self.parts) if lot >> at & 1]
+
+
+def masters_in(program):
+    """By tasks who begins them, None of main."""
+    return {task: None if task == "main" else program.master(task)[0] for task in program.tasks()}
+
+
+class Plan(Numbers):
+    """A program by numbers."""
+
+    def __init__(self, program):
+        entries = {task: entries_in(program.body(task)) for task in program.tasks()}
+        super().__init__(program.tasks(), masters_in(program), entries, program.things(), False)
+        self.source = program
+        for task in self.names:
+            coder = Coder(self)
+            end = coder.new_spot("end", (), None, ())
+            self.firsts.append(coder.body(program.body(task), (), end, end))
+            self.spots.append(coder.spots)
 
 
 class Coder:
@@ -164,10 +185,8 @@ class Coder:
 
     def nest(self, deed, path, after):
         tasks = tuple([self.plan.number[task] for task in deed[1]])
-        below = [at for at in range(len(self.plan.names))
-                 if at in tasks or any([at in self.plan.below[task] for task in tasks])]
         # Ends of bodies of "if", "pick", "call" and "else" are no spots: what is last in these leads to the end, too.
-        nest = Nest(tasks, tuple(below), after == 0)
+        nest = Nest(tasks, self.plan.below_nest(tasks), after == 0)
         end = self.new_spot("closing", path, nest, (after,))
         return self.new_spot("nest", path, nest, (self.body(deed[2], path + (0,), end, None),))
 

@@ -1,9 +1,10 @@
 """Which steps can be done at a stand, and what each does."""
 
 from meettasks.basics import is_integer, is_list
-from meettasks.doing import ABSENT, READY, Doing, Stand
+from meettasks.doing import ABSENT, ENDED, READY, Doing, Stand
 
-PLAIN_STEPS = {"note": "note", "nest": "begin", "call": "call", "use": "use", "wait": "wait", "abort": "abort"}
+PLAIN_STEPS = {"note": "note", "nest": "begin", "call": "call", "use": "use", "wait": "wait", "abort": "abort",
+               "row": "row"}
 
 
 def arms_now(stand, task, spot):
@@ -24,11 +25,30 @@ def is_ready_to_end(plan, stand, task):
     if stand.places[task] < 0:
         return True
     spot = plan.spots[task][stand.places[task]]
+    if spot.kind == "close":
+        return spot.what and len(stand.nests[task]) > 0
     return spot.kind == "closing" and spot.what.last or is_at_end_offer(plan, stand, task)
 
 
-def closing_steps(plan, stand, task, nest):
+def nest_at(plan, stand, task):
+    """The nest that a task begins or closes where it is, None at a "close" of code without one."""
+    spot = plan.spots[task][stand.places[task]]
+    if spot.kind != "close":
+        return spot.what
+    return plan.spots[task][stand.nests[task][-1]].what if stand.nests[task] else None
+
+
+def opening_steps(plan, stand, task):
+    """Of code: a nest can begin if no task of it is there and has not ended."""
+    nest = nest_at(plan, stand, task)
+    return [] if any([stand.places[one] >= 0 for one in nest.begun]) else [(plan.names[task], "begin")]
+
+
+def closing_steps(plan, stand, task):
     name = plan.names[task]
+    nest = nest_at(plan, stand, task)
+    if nest is None:
+        return [(name, "closes")]
     if not any([stand.places[one] >= 0 for one in nest.below]):
         return [(name, "closes")]
     if all([is_ready_to_end(plan, stand, one) for one in nest.below]):
@@ -56,8 +76,10 @@ def steps_of(plan, stand, task):
         return [(name, "pick", at) for at in range(len(spot.goes))]
     if spot.kind == "offer":
         return offer_steps(plan, stand, task, spot)
-    if spot.kind == "closing":
-        return closing_steps(plan, stand, task, spot.what)
+    if spot.kind in ("closing", "close"):
+        return closing_steps(plan, stand, task)
+    if spot.kind == "opening":
+        return opening_steps(plan, stand, task)
     return [(name, "take")] if stand.queues[spot.what[0]] else []
 
 
@@ -66,7 +88,8 @@ def first_stand(plan):
     many = len(plan.names)
     places = (plan.firsts[0],) + (ABSENT,) * (many - 1)
     empty = ((),) * many
-    nothing = Stand(places, (READY,) * many, empty, empty, ((),) * len(plan.rows), tuple(plan.starts))
+    nests = empty if plan.has_rows else ()
+    nothing = Stand(places, (READY,) * many, empty, empty, ((),) * len(plan.rows), tuple(plan.starts), nests)
     doing = Doing(plan, nothing)
     doing.go(0, plan.firsts[0])
     doing.settle()
@@ -88,6 +111,8 @@ def do_step(plan, stand, step):
         do_guarded(doing, task, spot)
     elif kind == "abort":
         do_abort(doing, task, spot)
+    elif kind == "row":
+        do_row(doing, task, spot)
     else:
         do_nest(doing, task, spot, kind)
     doing.settle()
@@ -125,10 +150,10 @@ def do_meeting(doing, task, spot, step):
 def do_call(doing, task, spot):
     called, row, _ = spot.what
     doing.asked |= doing.plan.end_bits[called]
-    if doing.places[called] >= 0:
-        doing.put_in_row(task, row)
-    else:
+    if doing.places[called] == ENDED:
         doing.break_call(task)
+    else:
+        doing.put_in_row(task, row)
 
 
 def do_guarded(doing, task, spot):
@@ -160,15 +185,25 @@ def do_abort(doing, task, spot):
         doing.go(task, spot.goes[0])
 
 
+def do_row(doing, task, spot):
+    """A silent row of code that is a step by itself."""
+    doing.go_silently(task, spot.what)
+    if doing.places[task] >= 0:
+        doing.go(task, doing.places[task])
+
+
 def do_nest(doing, task, spot, kind):
-    nest = spot.what
+    nest = nest_at(doing.plan, doing, task)
     if kind == "begin":
         for one in nest.begun:
             doing.begin(one)
+        doing.open_nest(task, doing.places[task])
         doing.go(task, spot.goes[0])
         return
-    ask_ends(doing, nest.below)
+    if nest is not None:
+        ask_ends(doing, nest.below)
     if kind == "closes":
+        doing.close_nest(task)
         doing.go(task, spot.goes[0])
         return
     for one in nest.below:
