@@ -57,6 +57,30 @@ INTERFACE = {
                "worst_comings(jobs, job); least_distance(jobs, job, ends)",
     "ceilings": "tangle(jobs, thing, ceiling); least_ceiling(jobs, thing)",
     "timed": "Timed(tasks) with tasks; is_course(timed, thing)",
+    "lawful": "is_lawful(timed, thing); bounds_of(timed, order); course_in(timed, order); ring_in(timed, order); "
+              "way_in(timed, order, one, other)",
+    "distances": "distances(timed, one, other); course_at(timed, one, other, number)",
+    "limits": "least_limit(timed, task, path); idle_limits(timed)",
+    "codes": "Code(rows, things=None) with rows(task), tasks, things; cut_code(code, cuts)",
+    "smallruns": "small_orders(code); small_steps(code, number); small_events(code, order)",
+    "compiling": "compiled(program)",
+    "papers": "apart_by(one, other); paper(one, other); is_paper(one, other, thing)",
+    "cuts": "cut_shows(code, cuts); unseen_cuts(code)",
+    "shorter": "rows_coming(code); short_code(code); needed_flags(code, task, number)",
+    "slots": "are_together(program, one, other); slots(program); most_together(program)",
+    "logs": "is_log(thing); fitting_run(program, log); first_misfit(program, log); stands_behind(program, log)",
+    "guesses": "happened(program, log, number, event); happened_runs(program, log, number, event); "
+               "sure_lines(program, log, number); possible_lines(program, log, number); "
+               "places_behind(program, log, task); values_behind(program, log, thing)",
+    "quarrels": "quarrels(program, log); doubted(program, log)",
+    "apartlogs": "fitting_order(program, apart); ahead_of(program, apart, one, other)",
+    "logwords": "log_apart(one, other, words); kinds_apart(one, other)",
+    "programtexts": "write_program(program); read_program(text)",
+    "sketches": "Sketch(body, things=None, unknown=()) with program, filled(bodies); verdicts(sketch, ask)",
+    "slices": "loose_tasks(program, sentence); sliced(program, sentence)",
+    "houses": "House() with put(name, kind, thing), drop(name), names, held(name), told(name), run(name), made, undo, "
+              "again, copy, trial(work)",
+    "housetexts": "write_house(house); read_house(text)",
     "fates": "all_fates(timed); course_with(timed, fates); come_to(timed, task, path); is_late(timed, task, path)",
 }
 
@@ -79,12 +103,13 @@ class InterfaceTest(unittest.TestCase):
                 head, _, methods = item.partition(" with ")
                 thing = getattr(module, head.split("(")[0])
                 self.assertEqual(thing.__module__, "meettasks." + name)
-                self.assertEqual(head, thing.__name__ + told_parameters(thing))
+                self.assertEqual(head, thing.__name__ + (told_parameters(thing) or "()"))
                 if methods:
                     self.check_class(thing, methods)
 
     def check_class(self, thing, methods):
         self.assertIn("__eq__", vars(thing))
+        self.assertEqual("__len__" in vars(thing), thing.__name__ == "House")
         depth, word, words = 0, "", []
         for sign in methods + ",":
             depth += (sign == "(") - (sign == ")")
