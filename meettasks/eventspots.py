@@ -109,3 +109,28 @@ def full_view(source):
     if "view" not in source.kept:
         source.kept["view"] = View(event_spots(source), KINDS)
     return source.kept["view"]
+
+
+def both_leads(views, lots):
+    """By events, ascending, the pairs of lots to which a pair leads, 0 where just one comes."""
+    goes = [view.leads(lots[at]) for at, view in enumerate(views)]
+    return {event: (goes[0].get(event, 0), goes[1].get(event, 0)) for event in sorted({**goes[0], **goes[1]})}
+
+
+def pairs_until(views, is_apart):
+    """The pairs of lots of two views, by their first rows, up to the first that is apart, with its row, or None."""
+    start = (views[0].first_lot(), views[1].first_lot())
+    rows = {start: []}
+    coming = [start]
+    found = []
+    while len(found) < len(coming):
+        lots = coming[len(found)]
+        found.append(lots)
+        if is_apart(lots):
+            return found, rows[lots]
+        goes = both_leads(views, lots)
+        for event in goes:
+            if goes[event] not in rows:
+                rows[goes[event]] = rows[lots] + [event]
+                coming.append(goes[event])
+    return found, None

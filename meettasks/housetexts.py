@@ -7,9 +7,7 @@ from meettasks.houses import House
 from meettasks.logforms import as_line
 from meettasks.programs import Program
 from meettasks.programtexts import program_lines, read_parts
-from meettasks.textlines import INWARD, Reader, as_number, as_truth, line_of, told_truth
-
-FURTHER = INWARD + INWARD
+from meettasks.textlines import FURTHER, INWARD, Reader, as_number, as_truth, line_of, told_truth
 
 
 def write_house(house):

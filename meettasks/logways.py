@@ -12,8 +12,12 @@ FAR = -1
 
 
 class Stage:
-    """Where one can be in a log: ways are pairs (test, stage behind an event); a loop is a test of events at which one
-    stays; skip is a stage to which one comes by nothing. Of steps the least one is told apart from how many more."""
+    """Where one can be in a log.
+
+    Ways are pairs (test, stage): an event that the test lets leads there. Loop is a test of events by which one stays,
+    skip a stage to which one comes without any, or None. How few steps do from each spot on till all lines have come
+    is its number in more (FAR if none do) and least, together: so rows that differ by a number alone are the same.
+    """
 
     def __init__(self, ways, loop, skip):
         self.ways = ways
@@ -32,6 +36,7 @@ def least_of(rows):
 
 
 def as_row(numbers):
+    """Numbers as a row (more, least), the least one being told apart."""
     least = min([one for one in numbers if one != FAR], default=0)
     return tuple([FAR if one == FAR else one - least for one in numbers]), least
 

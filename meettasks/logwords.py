@@ -2,7 +2,7 @@
 
 from meettasks.basics import first_bad_word, is_list, least_lots
 from meettasks.errors import BadKinds
-from meettasks.eventspots import KINDS, View, event_spots
+from meettasks.eventspots import KINDS, View, event_spots, pairs_until
 
 
 def checked_kinds(words):
@@ -16,23 +16,9 @@ def checked_kinds(words):
 
 def first_apart(one, other, kinds):
     """The first row of events of these kinds that just one of both has, or None."""
-    views = (View(event_spots(one), kinds), View(event_spots(other), kinds))
-    start = (views[0].first_lot(), views[1].first_lot())
-    rows = {start: []}
-    coming = [start]
-    at = 0
-    while at < len(coming):
-        lots = coming[at]
-        at += 1
-        if 0 in lots:
-            return rows[lots]
-        goes = [view.leads(lots[number]) for number, view in enumerate(views)]
-        for event in sorted({**goes[0], **goes[1]}):
-            target = (goes[0].get(event, 0), goes[1].get(event, 0))
-            if target not in rows:
-                rows[target] = rows[lots] + [event]
-                coming.append(target)
-    return None
+    views = [View(event_spots(one), kinds), View(event_spots(other), kinds)]
+    _, row = pairs_until(views, lambda lots: 0 in lots)
+    return row
 
 
 def log_apart(one, other, words):

@@ -1,7 +1,7 @@
 """Whether two programs, or codes, do the same: what tells them apart, and papers that show that nothing does."""
 
 from meettasks.basics import is_integer, is_list, is_pair
-from meettasks.eventspots import event_spots, full_view, led_all, members
+from meettasks.eventspots import both_leads, event_spots, full_view, led_all, members, pairs_until
 
 WHATS = ("can", "rest", "round")
 
@@ -41,41 +41,30 @@ class Side:
         return tuple([self.spots.spots[at] for at in members(lot)])
 
 
-def both_leads(sides, lots):
-    """By events, ascending, the pairs of lots to which a pair leads, 0 where just one comes."""
-    goes = [side.view.leads(lots[at]) for at, side in enumerate(sides)]
-    return {event: (goes[0].get(event, 0), goes[1].get(event, 0)) for event in sorted({**goes[0], **goes[1]})}
+def unlike_what(sides, lots):
+    """By what the two lots of a pair are told apart first, and who has it so; None if they are alike."""
+    tells = [side.tells(lots[number]) for number, side in enumerate(sides)]
+    for place, what in enumerate(WHATS):
+        if tells[0][place] != tells[1][place]:
+            return what, 0 if tells[0][place] else 1
+    return None
 
 
-def first_unlike(sides):
-    """The pairs of lots by first rows up to the first by which they are told apart, and this triple, or None."""
-    start = (sides[0].view.first_lot(), sides[1].view.first_lot())
-    rows = {start: []}
-    coming = [start]
-    at = 0
-    while at < len(coming):
-        lots = coming[at]
-        at += 1
-        tells = [side.tells(lots[number]) for number, side in enumerate(sides)]
-        for place, what in enumerate(WHATS):
-            if tells[0][place] != tells[1][place]:
-                return coming, (rows[lots], what, 0 if tells[0][place] else 1)
-        goes = both_leads(sides, lots)
-        for event in goes:
-            if goes[event] not in rows:
-                rows[goes[event]] = rows[lots] + [event]
-                coming.append(goes[event])
-    return coming, None
+def pairs_and_apart(sides):
+    """The pairs of lots by first rows, and the triple by which they are told apart, or None."""
+    views = [side.view for side in sides]
+    pairs, row = pairs_until(views, lambda lots: unlike_what(sides, lots) is not None)
+    return pairs, None if row is None else (row,) + unlike_what(sides, pairs[-1])
 
 
 def apart_by(one, other):
-    _, found = first_unlike([Side(one), Side(other)])
+    _, found = pairs_and_apart([Side(one), Side(other)])
     return found
 
 
 def paper(one, other):
     sides = [Side(one), Side(other)]
-    pairs, found = first_unlike(sides)
+    pairs, found = pairs_and_apart(sides)
     if found is not None:
         return None
     return [(sides[0].told(lots[0]), sides[1].told(lots[1])) for lots in pairs]
@@ -132,7 +121,7 @@ def is_paper(one, other, thing):
             return False
         # Steps without events are done ahead, too.
         free = tuple([led_all(side.view.free, lots[at]) for at, side in enumerate(sides)])
-        goes = both_leads(sides, free)
+        goes = both_leads([side.view for side in sides], free)
         if not all([0 not in goes[event] and goes[event] in pairs for event in goes]):
             return False
     return True

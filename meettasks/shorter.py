@@ -165,11 +165,11 @@ class Asking:
                 for edge in self.graph.edges[at]:
                     flags = self.asked_along(edge.trail, edge.target)
                     if self.graph.stands[at].places[self.task] >= 0:
-                        changed = self.add(self.later[at], flags) or changed
+                        changed = self.put_flags(self.later[at], flags) or changed
         self.asked_along(first_stand(self.graph.plan).trail, 0)
 
-    def add(self, found, flags):
-        """Adds flags to those found; whether there was any new one."""
+    def put_flags(self, found, flags):
+        """Puts flags to those found; whether there was any new one."""
         many = len(found)
         found.update(flags)
         return len(found) > many
@@ -179,7 +179,7 @@ class Asking:
         flags = dict(self.later[target]) if self.graph.stands[target].places[self.task] >= 0 else {}
         for task, number in reversed(trail):
             if task == self.task and number >= 0:
-                self.add(self.behind[number], flags)
+                self.put_flags(self.behind[number], flags)
                 row = self.rows[number][0]
                 if row[0] == "set":
                     flags.pop(row[1], None)

@@ -4,6 +4,7 @@ from meettasks.basics import is_word
 from meettasks.errors import BadText
 
 INWARD = 2
+FURTHER = 4
 FIGURES = "0123456789"
 
 
