@@ -46,22 +46,22 @@ class Apart:
         return counts[:at] + (counts[at] + 1,) + counts[at + 1:]
 
     def counts_along(self, counts, events):
-        """The counts ahead of the first event, behind it, and so on, up to where all lists have come, or None is."""
+        """The counts ahead of the first event, behind it, and so on; up to None if another line would have to come."""
         found = [counts]
         for event in events:
-            if found[-1] is None or found[-1] == self.whole:
-                break
             found.append(self.counted(found[-1], event))
+            if found[-1] is None:
+                break
         return found
 
     def start(self):
-        """The counts along what happens ahead of all steps."""
-        return self.counts_along((0,) * len(self.whole), first_stand(self.graph.plan).told)
+        """The place behind what happens ahead of all steps, counts None if a list is against it."""
+        return 0, self.counts_along((0,) * len(self.whole), first_stand(self.graph.plan).told)[-1]
 
     def ways(self, place):
         """The triples (step, counts along it, place behind it) of steps from a place on that no list is against."""
         at, counts = place
-        if counts == self.whole:
+        if counts is None or counts == self.whole:
             return []
         found = []
         for edge in self.graph.edges[at]:
@@ -73,11 +73,8 @@ class Apart:
 
 def fitting_order(program, apart):
     fitting = Apart(program, checked_apart(program, apart))
-    counts = fitting.start()[-1]
-    if counts is None:
-        return None
-    parents = {(0, counts): None}
-    coming = [(0, counts)]
+    parents = {fitting.start(): None}
+    coming = [fitting.start()]
     at = 0
     while at < len(coming):
         place = coming[at]
@@ -109,13 +106,10 @@ def comes_ahead(row, one, other):
 
 
 def rows_that_fit(fitting):
-    """The counts along all steps of runs that fit, and along what happens ahead of all steps."""
-    row = fitting.start()
-    if row[-1] is None:
-        return []
+    """The counts along all steps of runs that fit; ahead of all steps no more than one line comes."""
     sources = {}
     steps = []
-    coming = [(0, row[-1])]
+    coming = [fitting.start()]
     seen = {coming[0]: True}
     while coming:
         place = coming.pop()
@@ -128,8 +122,7 @@ def rows_that_fit(fitting):
     fit = {}
     whole = [place for place in seen if place[1] == fitting.whole]
     reached(whole, {place: sources.get(place, []) for place in seen}, fit)
-    rows = [row] if (0, row[-1]) in fit else []
-    return rows + [counts for counts, target in steps if target in fit]
+    return [counts for counts, target in steps if target in fit]
 
 
 def ahead_of(program, apart, one, other):

@@ -56,7 +56,7 @@ def is_refused(kept, name):
 def check_needed(kept, name):
     """Needed for the first run or ask that rests on what is put, and would be refused."""
     for by in kept:
-        if by != name and program_name(kept, by) == name and is_refused(kept, by):
+        if program_name(kept, by) == name and is_refused(kept, by):
             raise Needed(name, by)
 
 

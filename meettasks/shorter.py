@@ -97,12 +97,11 @@ class Shortening:
         taken = entries_taken(found)
         lacking = [(("take", entry), False) for entry in called if entry not in taken]
         last = [] if found and not lacking and is_last(found[-1][0]) else [(("over",), True)]
-        return [(self.placed(task, row, on, starts), on) for row, on in found] + lacking + last
+        return [(self.placed(task, row, starts), on) for row, on in found] + lacking + last
 
-    def placed(self, task, row, on, starts):
+    def placed(self, task, row, starts):
         """A row with the places of the new code; one to which it never leads is any."""
-        places = [self.target(task, place) if on and row[0] == "go" else place for place in places_in(row)]
-        return with_places(row, [starts.get(place, 0) for place in places])
+        return with_places(row, [starts.get(self.target(task, place), 0) for place in places_in(row)])
 
 
 def is_last(row):

@@ -17,7 +17,7 @@ def begun_with(program, task):
     found = [task]
     for one in program.tasks():
         master = program.master(one)
-        if master is not None and master[0] in found and one not in found:
+        if master is not None and master[0] in found:
             found.append(one)
     return found
 

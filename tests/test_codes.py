@@ -119,7 +119,18 @@ class CodeTest(unittest.TestCase):
                  ("nest", ()), ("nest", ("b", "b")), ("nest", ("B",)), ("nest", "b"), ("nest", ("main",)),
                  ("nest", ("c", "q")), ("close", 1), ("abort",), ("abort", "q"), ("abort", "main"), ("over", 1),
                  ("call", "q", "e", 0), ("call", "a", "q", 0), ("call", "main", "e", 0), ("nothing",), (), ("if", "f", 0),
-                 ("begin",), ("again", 0), (["note"], "x"), ({}, 0), ("else", 0)]
+                 ("begin",), ("again", 0), (["note"], "x"), ({}, 0), ("else", 0), ("note", []), ("set", [], True),
+                 ("unless", {}, 0), ("go", []), ("pick", [[], 0]), ("call", [], "e", 0), ("call", "a", {}, 0),
+                 ("call", "a", "e", 0, 0), ("take", []), ("offer", {0: (None, "e", 0)}, None), ("offer", "abc", None),
+                 ("offer", ({0: None, 1: "e", 2: 0},), None), ("offer", ((None, "E", 0),), None),
+                 ("offer", ((None, "e", None),), None), ("offer", ((None, "e", True),), None),
+                 ("offer", (([], "e", 0),), None), ("offer", ((None, "e", 0, 0),), None), ("offer", (None,), None),
+                 ("offer", ((None, "e", 0),), {0: "end"}), ("offer", ((None, "e", 0),), "end"),
+                 ("offer", ((None, "e", 0),), ("nope",)), ("offer", ((None, "e", 0),), ("nope", 0)),
+                 ("offer", ((None, "e", 0),), (["else"], 0)), ("offer", ((None, "e", 0),), ("else", True)),
+                 ("offer", ((None, "e", 0),), ("else", 0, 0)), ("use", [], "give"), ("use", "t", []), ("wait", {}, "have"),
+                 ("wait", "t", {}), ("nest", "bc"), ("nest", ("b", 1)), ("nest", ([],)), ("nest", {"b": 1}), ("abort", []),
+                 {0: "over"}, "over", ("over", None)]
         for row in wrong:
             rows = {"main": [off("take", "e"), OVER], "a": [off("take", "e"), (row, False), OVER], "c": ["none"]}
             self.check(rows, "a", 1, THINGS)

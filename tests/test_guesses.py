@@ -48,6 +48,15 @@ class HappenedTest(unittest.TestCase):
         run = [("main", "begin"), ("a", "pick", 0), ("a", "note"), ("a", "note")]
         self.assertEqual(happened_runs(program, log, 0, X), (run, run))
 
+    def test_no_other_way_with_it(self):
+        # Either of two brings the one that takes to its note, in as many steps.
+        tasks = {task: [("note", "x"), ("call", "c", "e", [])] for task in "ab"}
+        program = Program(nest({**tasks, "c": [("take", "e", [("note", "z")])]}))
+        runs = [[("main", "begin"), (task, "note"), (task, "call"), ("c", "take"), ("c", "note")] for task in "ab"]
+        for log in ([("gap", None), ("note", "c", "z")], [("gap", 2), ("note", "c", "z")]):
+            self.assertEqual(happened_runs(program, log, 0, ("note", "a", "x")), (runs[0], runs[1]))
+            self.assertEqual(happened_runs(program, log, 0, ("note", "b", "x")), (runs[1], runs[0]))
+
     def test_against_all_runs(self):
         told = {}
         for seed, (program, runs) in enumerate(runs_of(range(360))):
@@ -90,6 +99,7 @@ class HappenedTest(unittest.TestCase):
                 error = raised(work, program, [X, thing], None, *more)
                 self.assertIsInstance(error, BadLog)
                 self.assertEqual(error.index, 1)
+            self.assertEqual(raised(sure_lines, program, log, 2).number, 2)
             for work in (happened, happened_runs):
                 error = raised(work, program, log, 1, thing)
                 self.assertIsInstance(error, BadEvent)
@@ -136,6 +146,14 @@ class BehindTest(unittest.TestCase):
                     values = {run.value(thing) for run in found}
                     self.assertEqual(values_behind(program, log, thing), [worth for worth in worths if worth in values])
         self.assertGreater(many, 150)
+
+    def test_rings_of_events(self):
+        # Behind so many events of a ring, however many.
+        program = Program([("note", "x"), ("again", [("note", "x"), ("note", "y"), ("note", "z")])])
+        for many in list(range(12)) + [10 ** 18, 10 ** 18 + 1, 10 ** 18 + 2]:
+            place = (0,) if many == 0 else (1, 0, (many - 1) % 3)
+            self.assertEqual(places_behind(program, [("gap", many)], "main"), [place])
+            self.assertEqual(places_behind(program, [("note", "main", "x"), ("gap", many)], "main"), [(1, 0, many % 3)])
 
     def test_no_place_comes_of_nothing(self):
         # With one line more no place comes that could not be come to from those behind the lines ahead.

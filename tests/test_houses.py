@@ -128,7 +128,7 @@ class PutTest(unittest.TestCase):
     def test_bad_things(self):
         house = example_house()
         log = [("gap", 1)]
-        runs = [("p",), ("p", [], 0), ("P", []), (None, []), ("p", None), ("p", [None]), ("p", [("main",)]),
+        runs = [("p", [("Main", "begin")]), ("p", [(None, "begin")]), ("p", [([], "begin")]), ("p",), ("p", [], 0), ("P", []), (None, []), ("p", None), ("p", [None]), ("p", [("main",)]),
                 ("p", [("main", "Begin")]), ("p", [("main", "begin", -1)]), ("p", [("main", "begin", True)]),
                 ("p", [("main", "begin", None)]), ("p", [("main", "begin", 0, 0)]), ("p", {}), ("p", "x")]
         asks = [("values",), ("values", "p", 0), ("values", "P"), ("left", None), ("left",), ("holds", "p", FREE),

@@ -54,7 +54,7 @@ ask values
 def other_house():
     house = House()
     house.put("e", "program", example_89())
-    house.put("a", "run", ("e", [("main", "begin"), ("a", "pick", 1)]))
+    house.put("a", "run", ("e", [("main", "begin"), ("a", "pick", 0)]))
     house.put("b", "run", ("e", ()))
     house.put("c", "ask", ("keepers", "e", {}, True, [("b", [1, 0, 10]), ("a", [])]))
     house.put("d", "ask", ("holds", "e", {"u": ["no", "no"], "t": []}, False))
@@ -88,7 +88,7 @@ class HouseTextsTest(unittest.TestCase):
         self.assertEqual(read_house(text), house)
         self.assertEqual(write_house(read_house(text)), text)
         lines = text.split("\n")
-        for line in ("  a pick 1", "  keepers e yes", "    mark b 1 0 10", "    mark a", "    worth t", "    worth u no no",
+        for line in ("  a pick 0", "  keepers e yes", "    mark b 1 0 10", "    mark a", "    worth t", "    worth u no no",
                      "    gap 0", "    gap 999999999999999999", "    meets a b gap", "  of e"):
             self.assertIn(line, lines)
         self.assertLess(lines.index("    worth t"), lines.index("    worth u no no"))

@@ -90,6 +90,10 @@ class ApartTest(unittest.TestCase):
         both = Code({"main": [NOTE, (("pick", (1, 2)), False), (("take", "e"), False), OVER]})
         self.assertEqual(apart_by(both, stays), ([("note", "main", "x")], "round", 0))
         self.assertEqual(apart_by(stays, both), ([("note", "main", "x")], "round", 1))
+        # Where events of the step are still to come nothing goes on without one.
+        notes = {"main": [(("nest", ["a"]), False), (("go", 1), False)], "a": [NOTE, OVER]}
+        own = {**notes, "a": [NOTE, (("over",), False)]}
+        self.assertEqual(apart_by(Code(notes), Code(own)), ([("note", "a", "x")], "round", 1))
         # A round that is not led to without an event is none of this row; a silent one of both is.
         late = Code({"main": [(("note", "x"), False), (("note", "y"), False), (("go", 2), False)]})
         later = Code({"main": [(("note", "x"), False), (("note", "y"), False), (("take", "e"), False), OVER]})
@@ -183,7 +187,8 @@ class PaperTest(unittest.TestCase):
             self.assertIs(is_paper(self.code, self.cut, self.paper + [(thing, self.paper[0][1])]), False)
         lot = self.paper[0][0]
         for wrong in (lot[::-1], lot + lot[-1:], [(True, ())], [(0, ()), (99, ())], [(-1, ())], [(0, (MEETS,))], [(0, (), 0)],
-                      [(0, [("meets", 1)])], [0], [(0, None)]):
+                      [(0, [("meets", 1)])], [0], [(0, None)], [(0, [None])], [(0, [("meets", [])])], [(0, ["note"])],
+                      [(0, ()), (0, ())], [(None, ())], [([], ())], {0: (0, ())}):
             self.assertIs(is_paper(self.code, self.cut, self.paper + [(wrong, wrong)]), False)
         self.assertIs(is_paper(self.code, self.cut, self.paper + self.paper[3:4]), False)
 

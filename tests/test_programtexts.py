@@ -174,10 +174,10 @@ class ReadTest(unittest.TestCase):
         for line in ("thing", "thing t", "thing t a", "thing t a b", "thing t a a a", "thing T a a", "thing t a A a",
                      "thing t a 1 a", "thing t A A", "thing longwordx a a"):
             self.check(line + "\ntask main\n", 0)
-        for line in ("deed", "deed d", "deed d a", "deed d a b a", "deed d a c", "deed d a -", "deed D a b", "deed t a b",
-                     "deed longwordx a b", "entry e a", "entry e a b -", "entry e a c", "entry E - -", "entry t a b",
-                     " deed z a b", "deed z  a b", "thing s a a", "thing t a a", "deed s a b", "entry e a --"):
-            text = "thing t a a b\ndeed t a b\n" + line + "\ntask main\n"
+        for line in ("deed", "deed d", "deed d a", "deed d a b a", "deed d a c", "deed d a -", "deed D a b", "deed c a b",
+                     "deed longwordx a b", "entry e a", "entry e a b -", "entry e a c", "entry E - -", "entry c a b",
+                     " deed z a b", "deed z  a b", "thing s a a", "thing t a a", "deed b a b", "entry e a --", "deed d - -"):
+            text = "thing t a a b\ndeed c a b\n" + line + "\ntask main\n"
             self.check(text, 2)
         for lines, index in ((["entry f a -", "entry e a b"], 3), (["entry f a -", "entry f a b"], 3),
                              (["entry f - -", "deed z a b"], 3), (["deed z a b", "deed u a b"], 3)):

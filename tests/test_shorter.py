@@ -232,6 +232,7 @@ class NeededFlagsTest(unittest.TestCase):
                 self.assertIsInstance(error, NoTask)
                 self.assertIs(error.task, thing)
             error = raised(needed_flags, code, "a", thing)
+            self.assertEqual(raised(needed_flags, code, "a", 2).number, 2)
             if isinstance(thing, bool) or thing not in (0, 1):
                 self.assertIsInstance(error, NoRow)
                 self.assertIs(error.number, thing)

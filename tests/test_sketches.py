@@ -133,6 +133,7 @@ class SketchTest(unittest.TestCase):
             self.assertIsInstance(error, BadOpen)
             self.assertEqual(error.index, index)
         self.assertIsNone(raised(Sketch, body, None, ["d", "o", "a"]))
+        self.assertEqual(raised(Sketch, [NOTE], None, ["main"]).index, 0)
         # Who calls itself is called.
         self.assertEqual(raised(Sketch, nest({"a": [("take", "e", []), ("call", "a", "e", [])]}), None, ["a"]).index, 0)
 
@@ -194,6 +195,7 @@ class VerdictsTest(unittest.TestCase):
             (Sketch(nest({"s": [("again", [("offer", [(None, "e", []), ("f", "g", [])], ("end",)), ("set", "f", True)])],
                           "o": []}), None, ["o"]), ["o"]),
             (Sketch(nest({"s": [("take", "e", [])]}, nest({"o": []})) + nest({"r": [("take", "g", [])]}), None, ["o"]), ["o"]),
+            (Sketch(nest({"s": [("take", "e", [])]}, nest({"o": [], "q": [("take", "g", [])]})), None, ["o"]), ["o"]),
             (Sketch(nest({"s": [("take", "e", nest({"p": []}))], "b": nest({"o": [], "q": [("take", "h", [])]})}), None,
                     ["o", "p"]), ["o", "p"])]
         for sketch, unknown in sketches:
