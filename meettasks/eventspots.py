@@ -114,7 +114,8 @@ def full_view(source):
 def both_leads(views, lots):
     """By events, ascending, the pairs of lots to which a pair leads, 0 where just one comes."""
     goes = [view.leads(lots[at]) for at, view in enumerate(views)]
-    return {event: (goes[0].get(event, 0), goes[1].get(event, 0)) for event in sorted({**goes[0], **goes[1]})}
+    events = sorted(set(list(goes[0]) + list(goes[1])))
+    return {event: (goes[0].get(event, 0), goes[1].get(event, 0)) for event in events}
 
 
 def pairs_until(views, is_apart):

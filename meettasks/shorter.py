@@ -37,20 +37,18 @@ def passes(graph):
             if edge.step[1] == "row":
                 task = graph.plan.number[edge.step[0]]
                 ahead = (task, graph.stands[at].places[task])
-                found.update(passes_along(names, [ahead] + [place for place in edge.trail if place[0] == task][:1]))
+                put_passes(names, [ahead] + [place for place in edge.trail if place[0] == task][:1], found)
     for trail in all_trails(graph):
-        found.update(passes_along(names, trail))
+        put_passes(names, trail, found)
     return found
 
 
-def passes_along(names, trail):
-    """Of a row that a task passes the one that it comes to stands right behind it in a trail."""
-    found = {}
+def put_passes(names, trail, found):
+    """Behind a row that a task passes stands, in a trail, the one that it comes to by this."""
     for at in range(1, len(trail)):
         task, number = trail[at - 1]
         if trail[at][0] == task and trail[at][1] >= 0:
             found[names[task], number, trail[at][1]] = True
-    return found
 
 
 class Shortening:
